@@ -1,0 +1,1 @@
+"""Ballgrids: how close balls can lie at the points of a grid."""

@@ -1,0 +1,1 @@
+"""Forms that matrices take to one another."""

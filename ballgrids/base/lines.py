@@ -1,0 +1,89 @@
+"""Reckoning with lines of integers of any length; nothing is checked here."""
+
+from ballgrids.base.numbers import divisor_of
+
+
+def dot(one, other):
+    """The sum of the products of the numbers at equal indices."""
+    return sum([first * second for first, second in zip(one, other)])
+
+
+def turned(lines):
+    """The lines with rows and columns exchanged."""
+    return tuple(zip(*lines))
+
+
+def multiplied(one, other):
+    """The product of two lists of lines as matrices."""
+    columns = turned(other)
+    return tuple([tuple([dot(line, column) for column in columns]) for line in one])
+
+
+def unit_lines(size):
+    """The lines with 1 on the diagonal and 0 elsewhere."""
+    return tuple([tuple([int(row == column) for column in range(size)]) for row in range(size)])
+
+
+def first_other_than_0(numbers):
+    """The index of the first number other than 0, or None."""
+    for index, number in enumerate(numbers):
+        if number != 0:
+            return index
+    return None
+
+
+def without(things, index):
+    """The things but the one with this index, as a list."""
+    return [thing for place, thing in enumerate(things) if place != index]
+
+
+def primitive(line):
+    """The multiple of a line that is not all 0 that can stand in an echelon."""
+    divisor = divisor_of(line)
+    if line[first_other_than_0(line)] < 0:
+        divisor = -divisor
+    return tuple([number // divisor for number in line])
+
+
+def cleared_line(pivot, line, column, scale):
+    """A line from which the pivot line is taken, so that it is 0 at the column.
+
+    With the pivot of the step ahead as scale all numbers stay minors of the first
+    lines (Bareiss), so that the division leaves no remainder.
+    """
+    ahead, behind = pivot[column], line[column]
+    return [(ahead * number - behind * other) // scale for number, other in zip(line, pivot)]
+
+
+def determinant_of(lines):
+    """The determinant of as many lines as they are wide; 1 if there are none."""
+    rest, scale, sign = list(lines), 1, 1
+    for column in range(len(lines)):
+        index = first_other_than_0([line[column] for line in rest])
+        if index is None:
+            return 0
+        pivot = rest[index]
+        # Bringing the line with this index to the front moves it over so many others.
+        sign = -sign if index & 1 else sign
+        rest = [cleared_line(pivot, line, column, scale) for line in without(rest, index)]
+        scale = pivot[column]
+    return sign * scale
+
+
+def leading_block(lines, many):
+    """The first so many numbers of the first so many lines."""
+    return tuple([tuple(line[:many]) for line in lines[:many]])
+
+
+def minor(lines, row, column):
+    """The determinant of the lines without a row and a column."""
+    return determinant_of([without(line, column) for line in without(lines, row)])
+
+
+def adjugate(lines):
+    """The square that makes, as a product with these lines, the determinant on the diagonal."""
+    size = len(lines)
+    return tuple([
+        tuple([(-1 if (row + column) & 1 else 1) * minor(lines, column, row) for column in range(size)])
+        for row in range(size)
+    ])

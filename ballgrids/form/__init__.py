@@ -1,0 +1,1 @@
+"""Rows, tables, matrices and forms."""

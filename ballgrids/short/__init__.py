@@ -1,0 +1,1 @@
+"""Reduced forms and short rows."""
