@@ -107,6 +107,21 @@ class Between(unittest.TestCase):
     def nearer(self, form):
         return form.table[:3] + (form.table[3][:3] + (50,),)
 
+    def test_rows_that_are_no_basis(self):
+        # D4 has four rows with the values and pairings of the other form, but they are no basis.
+        other = GRID * 2
+        rows = ((0, 0, 0, 1), (0, 0, 1, 0), (1, -1, 0, 0), (1, 1, -1, -1))
+        self.assertEqual(led(TWENTY_FOUR.table, transposed(rows)), other.table)
+        for one, two in ((TWENTY_FOUR, other), (other, TWENTY_FOUR)):
+            self.assertEqual(matrices_between(one, two), ())
+            self.assertIsNone(matrix_between(one, two))
+            self.assertIs(are_alike(one, two), False)
+            self.assertIs(are_turned_alike(one, two), False)
+            self.assertIsNone(multiple_between(one, two))
+            self.assertEqual(alike_parts((one, two)), ((0,), (1,)))
+        self.assertIs(is_between(TWENTY_FOUR, other, transposed(rows)), False)
+        self.assertIs(is_multiple_between(TWENTY_FOUR, other, (1, 1, transposed(rows))), False)
+
     def test_few_least_rows(self):
         for numbers in ((2, 3, 5, 7), (2, 3, 5), (2, 3)):
             form = Form.diagonal(*numbers)

@@ -82,6 +82,14 @@ class Numbers(unittest.TestCase):
             self.assertEqual(minus(first, second), pair(one - other))
             self.assertEqual(times(first, second), pair(one * other))
 
+    def test_equal_ratios(self):
+        for ratio in ((0, 1), (1, 2), (-7, 3), (MOST, 1), (-1, MOST)):
+            self.assertEqual(compare(ratio, ratio), 0)
+            self.assertEqual(minus(ratio, ratio), (0, 1))
+            self.assertEqual(plus(ratio, (0, 1)), ratio)
+            self.assertEqual(times(ratio, (1, 1)), ratio)
+            self.assertEqual(times(ratio, (0, 1)), (0, 1))
+
     def test_long_ratios(self):
         self.assertEqual(plus((MOST, 1), (1, 1)), (LONG, 1))
         self.assertEqual(minus((-MOST, 1), (MOST, 1)), (-2 * MOST, 1))
