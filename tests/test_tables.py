@@ -184,6 +184,19 @@ class Tables(unittest.TestCase):
         self.assertEqual(told, (scale,) * 9)
         self.assertEqual(Fraction(told[0], scale), 1)
 
+    def test_forty_lines_of_sixty_digits(self):
+        chance = chance_of(15)
+        lines = tuple(tuple(chance.choice((-1, 1)) * chance.randint(LONG // 10, MOST) for _ in range(40)) for _ in range(40))
+        self.assertEqual(rank(lines), 40)
+        self.assertEqual(echelon(lines), unit(40))
+        self.assertEqual(kernel(lines), ())
+        zeros = kernel(lines[:38])
+        self.assertEqual(len(zeros), 2)
+        self.assertEqual(times(lines[:38], transposed(zeros)), ((0, 0),) * 38)
+        self.assertIsNone(told_by(lines[:39], lines[39]))
+        scale, factors = told_by(lines[:39], lines[5])
+        self.assertEqual((scale, factors), (1, unit(39)[5]))
+
     def test_wrong_lists(self):
         for wrong in WRONG_LISTS:
             for call in ONE_LIST:
