@@ -2,6 +2,7 @@
 
 import math
 import random
+import sys
 from itertools import permutations, product
 
 from ballgrids.form.forms import Form
@@ -226,3 +227,18 @@ def many_forms(seed, count, most=3):
         base = chance.choice([form for form in FORMS if form.size == size])
         made.append(base.led(some_matrix(chance, size, 3, 1)))
     return made
+
+
+def calls_of(call, *arguments):
+    """How many functions written in Python run in a call; unlike a time, it is the same at each run."""
+    count = [0]
+
+    def note(frame, event, told):
+        count[0] += event == "call"
+
+    sys.setprofile(note)
+    try:
+        outcome(call, *arguments)
+    finally:
+        sys.setprofile(None)
+    return count[0]

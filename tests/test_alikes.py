@@ -15,8 +15,8 @@ from ballgrids.form.matrices import led_row, led_table, matrix_back, matrix_prod
 from ballgrids.short.bases import reduced
 from ballgrids.short.rows import density, least_value, rows_of_value
 from tests.helper import (
-    BODY, CUBE, FACED, FORMS, FOURTH, GRID, LONG, MOST, PLANE, TWENTY_FOUR, WRONG, adjoint, chance_of, det, led,
-    many_forms, outcome, pairing, rows_below, slow_matrices, some_matrix, times, transposed, unit, value)
+    BODY, CUBE, FACED, FORMS, FOURTH, GRID, LONG, MOST, PLANE, TWENTY_FOUR, WRONG, adjoint, calls_of, chance_of, det,
+    led, many_forms, outcome, pairing, rows_below, slow_matrices, some_matrix, times, transposed, unit, value)
 
 TWO_FORMS = (matrices_between, matrix_between, are_alike, are_turned_alike, multiple_between)
 KEPT = (12, 48, 48, 48, 1152, 240, 384)
@@ -449,3 +449,43 @@ class WrongArguments(unittest.TestCase):
             for call in (keepers, count_keepers, lambda told: row_kinds(told, 4), lambda told: alike_parts((told, other))):
                 self.assertEqual(call(form), call(form))
             self.assertEqual((str(form), str(other)), before)
+
+
+class Work(unittest.TestCase):
+    """The functions are called very often: what they do must not grow with each matrix and each number of it."""
+
+    def test_few_calls(self):
+        for call, arguments, most in (
+                (keepers, (TWENTY_FOUR,), 20000), (count_keepers, (TWENTY_FOUR,), 10000), (keepers, (GRID,), 5000),
+                (matrices_between, (TWENTY_FOUR, TWENTY_FOUR), 20000), (row_kinds, (TWENTY_FOUR, 2), 25000),
+                (first_unlike, (GRID, GRID, 200), 3000), (are_alike, (TWENTY_FOUR, TWENTY_FOUR), 4000)):
+            self.assertLess(calls_of(call, *arguments), most, (call, arguments))
+
+
+class Blocks(unittest.TestCase):
+    """Forms with some equal and some unlike successive least values."""
+
+    TABLES = (
+        ((3, 1), (1, 5)), ((2, 1), (1, 5)), ((4, 2), (2, 7)), ((1, 0, 0), (0, 1, 0), (0, 0, 2)),
+        ((1, 0, 0), (0, 2, 1), (0, 1, 2)), ((2, 1, 1), (1, 2, 1), (1, 1, 5)), ((2, 1, 0), (1, 3, 1), (0, 1, 3)),
+        ((2, 1, 0, 0), (1, 2, 0, 0), (0, 0, 5, 1), (0, 0, 1, 5)), ((2, 1, 1, 0), (1, 2, 1, 1), (1, 1, 5, 2), (0, 1, 2, 6)),
+        ((2, 1, 1, 1), (1, 2, 1, 1), (1, 1, 2, 1), (1, 1, 1, 3)), ((1, 0, 0, 0), (0, 3, 1, 1), (0, 1, 3, 1), (0, 1, 1, 3)),
+        ((1, 0, 0, 0), (0, 2, 0, 0), (0, 0, 3, 0), (0, 0, 0, 5)), ((2, 0, 1, 1), (0, 2, 1, 1), (1, 1, 4, 1), (1, 1, 1, 4)))
+
+    def test_keepers(self):
+        chance = chance_of(67)
+        for table in self.TABLES:
+            form = Form(table)
+            self.assertEqual(keepers(form), slow_matrices(table, table), table)
+            matrix = some_matrix(chance, form.size, 4, 2)
+            other = form.led(matrix)
+            found = matrices_between(form, other)
+            self.assertEqual(found, tuple(sorted(times(keeper, matrix) for keeper in keepers(form))))
+            self.assertEqual(len(keepers(other)), len(found))
+
+    def test_equal_blocks_ahead_only(self):
+        one = Form(((2, 1, 0), (1, 2, 0), (0, 0, 4)))
+        self.assertEqual(matrices_between(one, Form(((2, 0, 0), (0, 2, 0), (0, 0, 3)))), ())
+        other = Form(((2, 0, 1, 0), (0, 2, 0, 1), (1, 0, 5, 0), (0, 1, 0, 5)))
+        another = Form(((2, 0, 1, 1), (0, 2, 0, 0), (1, 0, 5, 0), (1, 0, 0, 5)))
+        self.assertEqual(matrices_between(other, another), slow_matrices(other.table, another.table))

@@ -15,7 +15,7 @@ LIBRARY = {"math": ("gcd", "lcm", "isqrt", "comb", "perm", "factorial")}
 CALLED = (
     "len range enumerate zip min max sum abs sorted reversed int str bool list tuple dict isinstance any all divmod "
     "TypeError").split()
-METHODS = "append get items join keys values zfill copy index count".split()
+METHODS = "append get items join keys values zfill copy index count bit_length".split()
 BARRED = (
     "mro elements open input law version_info with_traceback add_note register attrgetter breakpoint builtins compile "
     "copyright credits delattr dir eval exec exit gc getattr globals hasattr help id importlib license locals "

@@ -11,9 +11,10 @@ from ballgrids.form.matrices import led_row, led_table, normal_row
 from ballgrids.short import rows as short_rows
 from ballgrids.short.rows import (
     count_values, density, each_row, is_denser, is_least_row, least_rows, least_value, rows_of_value, rows_up_to)
+from ballgrids.short.search import Search
 from tests.helper import (
-    BODY, CUBE, FACED, FORMS, FOURTH, GRID, LONG, MOST, PLANE, TWENTY_FOUR, WRONG, chance_of, inverse, lead, many_forms,
-    normal, outcome, rows_below, some_matrix)
+    BODY, CUBE, FACED, FORMS, FOURTH, GRID, LONG, MOST, PLANE, TWENTY_FOUR, WRONG, calls_of, chance_of, inverse, lead,
+    many_forms, normal, outcome, rows_below, some_matrix)
 
 ONE_FORM = (least_value, least_rows, density)
 
@@ -272,3 +273,26 @@ class Lengths(unittest.TestCase):
         far = PLANE.led(((1, MOST), (0, 1))).led(((1, MOST), (0, 1)))
         self.assertIn((2 * MOST, -1), least_rows(far))
         self.assertIs(is_least_row(far, (2 * MOST, -1)), False)
+
+
+class Work(unittest.TestCase):
+    """The functions are called very often: what they do must not grow with each row and each number of the table."""
+
+    def test_few_calls(self):
+        flat = Form.diagonal(1, 1)
+        for call, arguments, most in (
+                (rows_up_to, (flat, 1270), 3000), (rows_up_to, (flat, 1300), 1000), (rows_of_value, (flat, 1270), 1000),
+                (count_values, (GRID, 40), 5000), (count_values, (GRID, 20), 5000), (least_rows, (TWENTY_FOUR,), 2000)):
+            self.assertLess(calls_of(call, *arguments), most, (call, arguments))
+
+    def test_the_search_ends_early(self):
+        for form, longest in ((Form.diagonal(1, 1), 2000), (CUBE, 40), (GRID, 20)):
+            search = Search(form.table, 10 ** 6, 2000)
+            self.assertTrue(search.is_over())
+            self.assertLessEqual(search.many, 2000 + max(line.high - line.low + 1 for line in search.lines))
+            self.assertIs(type(outcome(rows_up_to, form, 10 ** 59)), TooMany)
+        self.assertEqual(len(rows_up_to(Form.diagonal(1, 10 ** 9), 1999 ** 2)), 1999)
+        self.assertFalse(Search(PLANE.table, 100).is_over())
+        self.assertEqual(Search(PLANE.table, 2, 3).many, 3)
+        self.assertFalse(Search(PLANE.table, 2, 3).is_over())
+        self.assertTrue(Search(PLANE.table, 2, 2).is_over())

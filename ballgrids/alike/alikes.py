@@ -1,16 +1,16 @@
 """Forms that matrices take to one another, and symmetries of forms [5.1] to [5.6]."""
 
-from ballgrids.alike.fitting import matrices_of_reduced, matrices_of_tables
+from ballgrids.alike.fitting import columns_of_reduced, matrices_of_tables
 from ballgrids.base.kinds import is_long_matrix
-from ballgrids.base.lines import determinant_of, multiplied, unit_lines
+from ballgrids.base.lines import determinant_of, dot, multiplied, unit_lines
 from ballgrids.base.numbers import divisor_of, is_whole, ratio_of
 from ballgrids.errors import InvalidOperation
-from ballgrids.form.algebra import image, led_by, made_normal, scaled
+from ballgrids.form.algebra import led_by, made_normal, scaled
 from ballgrids.form.forms import Form
 from ballgrids.form.matrices import need_matrix
 from ballgrids.form.needs import need_form, need_forms, need_number
 from ballgrids.short.reducing import reduced_lattice
-from ballgrids.short.rows import counts_up_to, few_rows
+from ballgrids.short.rows import counts_up_to, rows_at
 
 MOST_COUNTED = 200
 MOST_ROWS = 2000
@@ -41,13 +41,20 @@ def are_alike(one, other):
     return matrix_between(one, other) is not None
 
 
+def has_turning(matrices):
+    """Whether one of some matrices is turning."""
+    for matrix in matrices:
+        if determinant_of(matrix) == 1:
+            return True
+    return False
+
+
 def are_turned_alike(one, other):
     """Whether some turning matrix takes the first form to the second one [5.4]."""
     need_forms(one, other)
     if one.size == 3:
         return are_alike(one, other)
-    found = matrices_of_tables(one.table, other.table)
-    return any([determinant_of(matrix) == 1 for matrix in found])
+    return has_turning(matrices_of_tables(one.table, other.table))
 
 
 def keepers(form):
@@ -60,7 +67,7 @@ def count_keepers(form):
     """The number of the keepers; it is the same for a reduced form that is alike."""
     need_form(form)
     table = reduced_lattice(form.table)[0]
-    return len(matrices_of_reduced(table, table))
+    return len(columns_of_reduced(table, table))
 
 
 def keeper_order(form, matrix):
@@ -103,20 +110,23 @@ def is_multiple_between(one, other, value):
 
 def kind_of_row(row, matrices):
     """The ascending tuple of the normal rows to which the matrices lead a row."""
-    led = {made_normal(image(matrix, row)): True for matrix in matrices}
-    return tuple(sorted(list(led)))
+    lines = {line: True for matrix in matrices for line in matrix}
+    numbers = {line: dot(line, row) for line in lines}
+    led = {tuple([numbers[line] for line in matrix]): True for matrix in matrices}
+    kind = {made_normal(told): True for told in led}
+    return tuple(sorted(list(kind)))
 
 
 def row_kinds(form, number):
     """The normal rows with a value, parted into kinds [5.5]."""
     need_form(form)
     need_number(number, 1)
-    found = few_rows(form, number, MOST_ROWS)
-    matrices = matrices_of_tables(form.table, form.table)
+    rows = rows_at(form, number, MOST_ROWS)
+    matrices = matrices_of_tables(form.table, form.table) if rows else []
     seen = {}
     kinds = []
-    for value, row in found:
-        if value == number and row not in seen:
+    for row in rows:
+        if row not in seen:
             kind = kind_of_row(row, matrices)
             kinds.append(kind)
             for member in kind:
@@ -147,7 +157,7 @@ def part_with(parts, tables, table):
     """The index of the part whose forms are alike to one, or None; all tables are reduced."""
     for place, part in enumerate(parts):
         told = tables[part[0]]
-        if len(told) == len(table) and matrices_of_reduced(told, table, 1):
+        if len(told) == len(table) and columns_of_reduced(told, table, 1):
             return place
     return None
 

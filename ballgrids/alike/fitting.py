@@ -2,90 +2,69 @@
 
 Both tables are reduced first. Then a matrix between them leads each unit row to a row
 with the same value as in the second table. The rows that belong to lesser numbers on
-the diagonal are mixes of just as many of the first unit rows.
+the diagonal are mixes of just as many of the first unit rows. So equal numbers on the
+diagonal make a block of letters, and a matrix has only 0 below its blocks.
 """
 
-from ballgrids.base.lines import adjugate, determinant_of, dot, multiplied, turned
-from ballgrids.form.algebra import image, undone, value_at
+from ballgrids.alike.blocks import Block, joined
+from ballgrids.base.lines import determinant_of, leading_block, turned, unit_lines
+from ballgrids.form.algebra import image, undone
 from ballgrids.short.reducing import reduced_lattice
-from ballgrids.short.search import rows_within, shadows_of
+from ballgrids.short.search import shadows_of
 
 
-def opposite(row):
-    """The row with all signs changed."""
-    return tuple([-number for number in row])
+def block_ends(table):
+    """The pairs of the first index of a block of letters and of the one behind its last."""
+    size = len(table)
+    starts = [at for at in range(size) if at == 0 or table[at - 1][at - 1] < table[at][at]]
+    return list(zip(starts, starts[1:] + [size]))
 
 
-def lesser_ones(table, index):
-    """How many numbers on the diagonal are less than the one with the index."""
-    return len([place for place in range(index) if table[place][place] < table[index][index]])
+def block_columns(one, other, start, end, most=None):
+    """For each matrix of a block of letters the tuple of its columns.
 
-
-def tails_of_columns(one, other):
-    """For each column of a matrix all that it can have behind the first lesser ones.
-
-    The shadow of the table behind them tells the value that is left for these entries.
-    So they stay few, even if far more rows have the value of the column.
+    Ahead of the block, fractions can be added to a column. So its letters are compared
+    by the shadows of both tables, in which nothing of the letters ahead is left.
     """
-    shadows, wanted = shadows_of(one), shadows_of(other)
-    found = []
-    for index in range(len(one)):
-        start = lesser_ones(other, index)
-        table = shadows[start][1]
-        value = wanted[start][1][index - start][index - start]
-        tails = [row for row in rows_within(table, value) if value_at(table, row) == value]
-        found.append(tails + [opposite(row) for row in tails])
-    return found
+    first = leading_block(shadows_of(one)[start][1], end - start)
+    second = leading_block(shadows_of(other)[start][1], end - start)
+    return Block(first, second, most).found
 
 
-def heads_of_column(images, pairings, start, tails):
-    """The rows with these tails and the told pairings with the first columns.
-
-    `images` are the rows that make a row's pairings with these columns.
-    """
-    if start == 0:
-        return tails
-    block = [line[:start] for line in images[:start]]
-    divisor, solver = determinant_of(block), adjugate(block)
-    found = []
-    for tail in tails:
-        rests = [pairing - dot(line[start:], tail) for line, pairing in zip(images[:start], pairings)]
-        tops = image(solver, rests)
-        if all([top % divisor == 0 for top in tops]):
-            found.append(tuple([top // divisor for top in tops]) + tail)
-    return found
-
-
-def extend(tables, tails, columns, images, most, found):
-    """Puts the matrices that begin with the columns into a list, until it has so many."""
-    one, other = tables
-    index = len(columns)
-    if index == len(one):
-        found.append(turned(columns))
-        return
-    start, pairings = lesser_ones(other, index), other[index][:index]
-    for row in heads_of_column(images, pairings, start, tails[index]):
-        if all([dot(line, row) == pairing for line, pairing in zip(images[start:], pairings[start:])]):
-            extend(tables, tails, columns + [row], images + [image(one, row)], most, found)
-        if most is not None and len(found) >= most:
-            return
-
-
-def matrices_of_reduced(one, other, most=None):
-    """The matrices between two reduced tables, at most so many of them."""
+def columns_of_reduced(one, other, most=None):
+    """For each matrix between two reduced tables the tuple of its columns; at most so many."""
     for index in range(len(one)):
         if one[index][index] != other[index][index]:
             return []
     if determinant_of(one) != determinant_of(other):
         return []
-    found = []
-    extend((one, other), tails_of_columns(one, other), [], [], most, found)
-    return found
+    blocks = block_ends(one)
+    if len(blocks) == 1:
+        return block_columns(one, other, 0, len(one), most)
+    found = [()]
+    for start, end in blocks:
+        # Only if something fits ahead, the shadows of both tables have one scale.
+        if found:
+            found = joined(one, other, start, found, block_columns(one, other, start, end))
+    return found[:most]
+
+
+def led_columns(matrix, found):
+    """For each tuple of lines the tuple of their images; equal lines are led just once."""
+    told = {line: True for lines in found for line in lines}
+    led = {line: image(matrix, line) for line in told}
+    return [tuple([led[line] for line in lines]) for lines in found]
 
 
 def matrices_of_tables(one, other, most=None):
     """The matrices between two positive tables, at most so many."""
     first, second = reduced_lattice(one), reduced_lattice(other)
-    found = matrices_of_reduced(first[0], second[0], most)
-    ahead, behind = turned(first[1]), undone(turned(second[1]))
-    return [multiplied(multiplied(ahead, matrix), behind) for matrix in found]
+    found = columns_of_reduced(first[0], second[0], most)
+    unit = unit_lines(len(one))
+    if first[1] != unit:
+        found = led_columns(turned(first[1]), found)
+    matrices = [turned(columns) for columns in found]
+    if second[1] != unit:
+        # Of a product with a matrix each row is led by that matrix with rows and columns exchanged.
+        matrices = led_columns(turned(undone(turned(second[1]))), matrices)
+    return matrices

@@ -55,8 +55,49 @@ def cleared_line(pivot, line, column, scale):
     return [(ahead * number - behind * other) // scale for number, other in zip(line, pivot)]
 
 
+def determinant_of_two(lines):
+    """The determinant of two lines."""
+    (first, second), (third, fourth) = lines
+    return first * fourth - second * third
+
+
+def determinant_of_three(lines):
+    """The determinant of three lines, by the first one."""
+    (first, second, third), one, other = lines
+    return (
+        first * (one[1] * other[2] - one[2] * other[1])
+        - second * (one[0] * other[2] - one[2] * other[0])
+        + third * (one[0] * other[1] - one[1] * other[0])
+    )
+
+
+def determinant_of_four(lines):
+    """The determinant of four lines, by pairs of columns of the first two and of the last two lines."""
+    one, two, three, four = lines
+    return (
+        (one[0] * two[1] - one[1] * two[0]) * (three[2] * four[3] - three[3] * four[2])
+        - (one[0] * two[2] - one[2] * two[0]) * (three[1] * four[3] - three[3] * four[1])
+        + (one[0] * two[3] - one[3] * two[0]) * (three[1] * four[2] - three[2] * four[1])
+        + (one[1] * two[2] - one[2] * two[1]) * (three[0] * four[3] - three[3] * four[0])
+        - (one[1] * two[3] - one[3] * two[1]) * (three[0] * four[2] - three[2] * four[0])
+        + (one[2] * two[3] - one[3] * two[2]) * (three[0] * four[1] - three[1] * four[0])
+    )
+
+
 def determinant_of(lines):
     """The determinant of as many lines as they are wide; 1 if there are none."""
+    size = len(lines)
+    if size == 2:
+        return determinant_of_two(lines)
+    if size == 3:
+        return determinant_of_three(lines)
+    if size == 4:
+        return determinant_of_four(lines)
+    return eliminated_determinant(lines)
+
+
+def eliminated_determinant(lines):
+    """The determinant of any number of lines, by elimination."""
     rest, scale, sign = list(lines), 1, 1
     for column in range(len(lines)):
         index = first_other_than_0([line[column] for line in rest])

@@ -5,21 +5,20 @@ table that is to be reduced.
 """
 
 from ballgrids.base.lines import adjugate, determinant_of, dot, leading_block, unit_lines
-from ballgrids.form.algebra import image, value_at
-
-
-def sign_rows(many):
-    """All rows of so many integers -1, 0 and 1."""
-    rows = [()]
-    for _ in range(many):
-        rows = [row + (sign,) for row in rows for sign in (-1, 0, 1)]
-    return rows
+from ballgrids.form.algebra import image
 
 
 def nearest_signs(table, index):
     """The pair of the least value at a row of [3.1] for the index, and its entries ahead."""
-    block = leading_block(table, index + 1)
-    return min([(value_at(block, signs + (1,)), signs) for signs in sign_rows(index)])
+    found = [(table[index][index], ())]
+    for place in range(index):
+        line = table[place]
+        # What an entry adds: its own square, and its pairings with the ones ahead and with the last one.
+        found = [
+            (value + sign * (sign * line[place] + 2 * (line[index] + dot(line, signs))), signs + (sign,))
+            for value, signs in found for sign in (-1, 0, 1)
+        ]
+    return min(found)
 
 
 def is_reduced_table(table):

@@ -6,7 +6,7 @@ from ballgrids.form.algebra import is_normal, value_at
 from ballgrids.form.matrices import fits_row
 from ballgrids.form.needs import need_form, need_forms, need_number
 from ballgrids.short.reducing import reduced_lattice
-from ballgrids.short.search import shortest, valued_rows
+from ballgrids.short.search import Search, led_lines, lines_at, shortest, valued_rows
 
 MOST_ROWS = 2000
 MOST_VALUE = 200
@@ -32,19 +32,27 @@ def is_least_row(form, value):
     return value_at(form.table, value) == least_value(form)
 
 
-def few_rows(form, bound, most):
-    """The ascending pairs of values and normal rows up to a bound, if there are not too many."""
-    found = valued_rows(reduced_lattice(form.table), bound, most)
-    if len(found) > most:
+def few_lines(form, bound, most):
+    """The basis of a reduced form, and the lines of all its rows up to a bound, if there are not too many."""
+    lattice, basis = reduced_lattice(form.table)
+    search = Search(lattice, bound, most)
+    if search.is_over():
         raise TooMany(most)
-    return found
+    return basis, search
+
+
+def rows_at(form, number, most):
+    """The ascending list of the normal rows with a value, if there are not too many up to it."""
+    basis, search = few_lines(form, number, most)
+    return sorted(led_lines(basis, lines_at(search)))
 
 
 def counts_up_to(form, bound, most):
     """For each integer from 0 to the bound the number of the normal rows with this value."""
     counts = [0] * (bound + 1)
-    for value, _ in few_rows(form, bound, most):
-        counts[value] = counts[value] + 1
+    for line in few_lines(form, bound, most)[1].lines:
+        for value in line.worths():
+            counts[value] = counts[value] + 1
     return counts
 
 
@@ -52,14 +60,15 @@ def rows_up_to(form, bound):
     """The normal rows with values up to the bound, those with lesser values first."""
     need_form(form)
     need_number(bound, 0)
-    return tuple([row for value, row in few_rows(form, bound, MOST_ROWS)])
+    basis, search = few_lines(form, bound, MOST_ROWS)
+    return tuple([row for value, row in valued_rows(basis, search.lines)])
 
 
 def rows_of_value(form, number):
     """The ascending tuple of the normal rows with this value."""
     need_form(form)
     need_number(number, 0)
-    return tuple([row for value, row in few_rows(form, number, MOST_ROWS) if value == number])
+    return tuple(rows_at(form, number, MOST_ROWS))
 
 
 def count_values(form, most):
@@ -74,10 +83,10 @@ def count_values(form, most):
 def each_row(form):
     """A generator of all normal rows in the order of `rows_up_to`, without an end."""
     need_form(form)
-    lattice = reduced_lattice(form.table)
-    done, bound = 0, lattice[0][0][0]
+    lattice, basis = reduced_lattice(form.table)
+    done, bound = 0, lattice[0][0]
     while True:
-        found = [row for value, row in valued_rows(lattice, bound) if value > done]
+        found = [row for value, row in valued_rows(basis, Search(lattice, bound).lines) if value > done]
         for row in found:
             yield row
         # The bound grows by a part of it: so the rows that are found again stay few.

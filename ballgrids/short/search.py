@@ -1,9 +1,12 @@
-"""Finding all short rows of a positive table of any length; nothing is checked here."""
+"""Finding all short rows of a positive table of any length; nothing is checked here.
+
+Rows are found line by line. A line has all entries but the first one in common, its
+tail. Of a row and its opposite just one is on a line, and the row of zeros is on none.
+"""
 
 from math import isqrt
 
-from ballgrids.base.lines import cleared_line, dot
-from ballgrids.form.algebra import made_normal, value_at
+from ballgrids.base.lines import cleared_line, dot, turned
 from ballgrids.short.reducing import reduced_lattice
 
 
@@ -22,58 +25,116 @@ def shadows_of(table):
     return found
 
 
-def entry_bounds(shadow, bound, tail):
-    """The least and the greatest entry ahead of a tail of a row with values up to the bound."""
-    scale, table = shadow
-    first = table[0][0]
-    mixed = dot(table[0][1:], tail)
-    rest = value_at([line[1:] for line in table[1:]], tail) - bound * scale
-    root = isqrt(mixed * mixed - first * rest)
-    return -((mixed + root) // first), (root - mixed) // first
+class Line:
+    """The rows with a tail whose first entry is from `low` to `high`.
 
-
-def gather(shadows, bound, tail, most, found):
-    """Puts the rows that end with the tail into a list, until it has more than so many."""
-    index = len(shadows) - len(tail) - 1
-    if index < 0:
-        found.append(tail)
-        return
-    low, high = entry_bounds(shadows[index], bound, tail)
-    if not any([number != 0 for number in tail]):
-        # Of a row and its opposite one is enough, and the row of zeros is left out.
-        low = 0 if index > 0 else 1
-    for number in range(low, high + 1):
-        gather(shadows, bound, (number,) + tail, most, found)
-        if most is not None and len(found) > most:
-            return
-
-
-def rows_within(table, bound, most=None):
-    """One of each row and its opposite that are not all 0 and have values from 0 to the bound.
-
-    If there are more than `most`, just one more is told.
+    The value at the entry x is (first x + twice) x + rest.
     """
+
+    def __init__(self, tail, ends, worths):
+        self.tail = tail
+        self.low, self.high = ends
+        self.first, self.twice, self.rest = worths
+
+    def value(self, entry):
+        """The value of the row with this entry."""
+        return (self.first * entry + self.twice) * entry + self.rest
+
+    def worths(self):
+        """The values of all rows of the line."""
+        first, twice, rest = self.first, self.twice, self.rest
+        return [(first * entry + twice) * entry + rest for entry in range(self.low, self.high + 1)]
+
+    def narrowed(self, low, high):
+        """The line with other ends."""
+        return Line(self.tail, (low, high), (self.first, self.twice, self.rest))
+
+
+class Search:
+    """The lines of all rows with values from 0 to a bound; it ends where there are more than `most`."""
+
+    def __init__(self, table, bound, most=None):
+        self.levels = [(scale, rest[0][0], rest[0][1:]) for scale, rest in shadows_of(table)]
+        self.bound = bound
+        self.most = most
+        self.many = 0
+        self.lines = []
+        self.gather((), 0)
+
+    def is_over(self):
+        """Whether there are more rows than wanted."""
+        return self.most is not None and self.many > self.most
+
+    def gather(self, tail, worth):
+        """Takes the lines whose rows end with the tail; `worth` is its value by its own shadow."""
+        scale, first, factors = self.levels[len(self.levels) - len(tail) - 1]
+        mixed = dot(factors, tail)
+        root = isqrt(scale * (first * self.bound - worth))
+        low, high = -((mixed + root) // first), (root - mixed) // first
+        if worth == 0:
+            # The tail is all 0 then. Of a row and its opposite one is enough.
+            low = 0 if len(tail) + 1 < len(self.levels) else 1
+        rest, twice = (mixed * mixed + scale * worth) // first, 2 * mixed
+        if len(tail) + 1 < len(self.levels):
+            for entry in range(low, high + 1):
+                self.gather((entry,) + tail, (first * entry + twice) * entry + rest)
+                if self.is_over():
+                    return
+        elif low <= high:
+            self.lines.append(Line(tail, (low, high), (first, twice, rest)))
+            self.many = self.many + high - low + 1
+
+
+def lines_at(search):
+    """Lines of one row each, for the rows whose value is the bound itself: they are at the ends of the lines."""
     found = []
-    gather(shadows_of(table), bound, (), most, found)
+    for line in search.lines:
+        ends = (line.low, line.high) if line.low < line.high else (line.low,)
+        for end in ends:
+            if line.value(end) == search.bound:
+                found.append(line.narrowed(end, end))
     return found
 
 
-def valued_rows(lattice, bound, most=None):
-    """The ascending list of pairs of a value and a normal row, for values from 0 to the bound.
+def progress(start, step, count):
+    """So many numbers, each one greater than the one ahead by the step."""
+    if step == 0:
+        return [start] * count
+    return list(range(start, start + step * count, step))
 
-    The lattice is a reduced table with its basis, in whose letters the rows are told. If
-    there are more than `most`, just one more is told.
+
+def led_line(spread, line):
+    """The rows of a line led to the letters of a lattice, made normal.
+
+    `spread` has the first number of the rows of the basis, and the others, for each letter.
     """
-    table, basis = lattice
-    columns = list(zip(*basis))
-    return sorted([
-        (value_at(table, row), made_normal(tuple([dot(row, column) for column in columns])))
-        for row in rows_within(table, bound, most)
-    ])
+    count = line.high - line.low + 1
+    ahead = [(line.low * step + dot(others, line.tail), step) for step, others in spread]
+    rows = turned([progress(start, step, count) for start, step in ahead])
+    opposites = turned([progress(-start, -step, count) for start, step in ahead])
+    # Of a row and its opposite the normal one is the greater one.
+    return [max(row, opposite) for row, opposite in zip(rows, opposites)]
+
+
+def spread_of(basis):
+    """For each letter the number of the first row of a basis, and those of the others."""
+    return [(column[0], column[1:]) for column in turned(basis)]
+
+
+def led_lines(basis, lines):
+    """The normal rows of some lines, led by the rows of a basis."""
+    spread = spread_of(basis)
+    return [row for line in lines for row in led_line(spread, line)]
+
+
+def valued_rows(basis, lines):
+    """The ascending list of pairs of a value and a normal row, for all rows of some lines."""
+    spread = spread_of(basis)
+    return sorted([pair for line in lines for pair in zip(line.worths(), led_line(spread, line))])
 
 
 def shortest(table):
     """The pair of the least value and the ascending list of the least rows."""
-    lattice = reduced_lattice(table)
-    least = lattice[0][0][0]
-    return least, [row for value, row in valued_rows(lattice, least)]
+    lattice, basis = reduced_lattice(table)
+    least = lattice[0][0]
+    return least, sorted(led_lines(basis, lines_at(Search(lattice, least))))
