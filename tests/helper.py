@@ -3,6 +3,7 @@
 import math
 import random
 import sys
+from fractions import Fraction
 from itertools import permutations, product
 
 from ballgrids.form.forms import Form
@@ -190,6 +191,59 @@ def slow_reduced(table):
     return all(value(table, row) >= table[i][i] for i in range(size) for row in sign_rows(size, i))
 
 
+def square_of(row):
+    return tuple(tuple(a * b for b in row) for a in row)
+
+
+def sum_table(tables, weights=None):
+    """The sum of some tables, each multiplied by its weight."""
+    weights = weights or [1] * len(tables)
+    size = range(len(tables[0]))
+    return tuple(tuple(sum(w * t[i][j] for t, w in zip(tables, weights)) for j in size) for i in size)
+
+
+def multiple(table, number):
+    return tuple(tuple(number * entry for entry in row) for row in table)
+
+
+def product_sum(one, other):
+    """Two tables together [0.9]."""
+    return sum(a * b for row, line in zip(one, other) for a, b in zip(row, line))
+
+
+def uppers(table):
+    return [table[i][j] for i in range(len(table)) for j in range(i, len(table))]
+
+
+def solved(lines, values):
+    """Fractions that make the values of the columns of the lines, or None; and whether they are the only ones."""
+    width = len(lines[0])
+    rest = [[Fraction(number) for number in line] + [Fraction(value)] for line, value in zip(lines, values)]
+    done = []
+    for column in range(width):
+        index = next((i for i in range(len(done), len(rest)) if rest[i][column]), None)
+        if index is None:
+            continue
+        at = len(done)
+        rest[at], rest[index] = rest[index], rest[at]
+        rest[at] = [number / rest[at][column] for number in rest[at]]
+        for i in range(len(rest)):
+            if i != at and rest[i][column]:
+                rest[i] = [a - rest[i][column] * b for a, b in zip(rest[i], rest[at])]
+        done.append(column)
+    if any(line[-1] for line in rest[len(done):]):
+        return None, False
+    found = [Fraction(0)] * width
+    for at, column in enumerate(done):
+        found[column] = rest[at][-1]
+    return found, len(done) == width
+
+
+def ratio(fraction):
+    """A fraction as a pair of the top and the bottom."""
+    return (fraction.numerator, fraction.denominator)
+
+
 # Values made by chance, the same ones at each run.
 
 def some_table(chance, size, most):
@@ -211,6 +265,17 @@ def some_matrix(chance, size, steps, most):
         if chance.random() < 0.3:
             lines[one] = [-a for a in lines[one]]
     return tuple(tuple(line) for line in lines)
+
+
+def far_matrix(chance, size, digits):
+    """A matrix whose greatest integers have about so many digits, at most sixty."""
+    lower = [[int(i == j) for j in range(size)] for i in range(size)]
+    upper = [[int(i == j) for j in range(size)] for i in range(size)]
+    for i in range(size):
+        for j in range(i):
+            lower[i][j] = chance.randint(-9, 9)
+            upper[j][i] = chance.randint(-10 ** (digits - 3), 10 ** (digits - 3))
+    return times(tuple(map(tuple, lower)), tuple(map(tuple, upper)))
 
 
 def chance_of(seed):

@@ -14,7 +14,7 @@ TOP = os.path.join(os.path.dirname(os.path.dirname(os.path.abspath(__file__))), 
 LIBRARY = {"math": ("gcd", "lcm", "isqrt", "comb", "perm", "factorial")}
 CALLED = (
     "len range enumerate zip min max sum abs sorted reversed int str bool list tuple dict isinstance any all divmod "
-    "TypeError").split()
+    "TypeError iter").split()
 METHODS = "append get items join keys values zfill copy index count bit_length".split()
 BARRED = (
     "mro elements open input law version_info with_traceback add_note register attrgetter breakpoint builtins compile "
@@ -230,22 +230,103 @@ class Interface(unittest.TestCase):
         "ballgrids.alike.alikes": (
             "MOST_COUNTED MOST_ROWS matrices_between matrix_between is_between are_alike are_turned_alike keepers "
             "count_keepers keeper_order multiple_between is_multiple_between row_kinds first_unlike alike_parts"),
+        "ballgrids.cone.told": "NAMES told_form rays_of frames Copy has_ray",
+        "ballgrids.span.spans": (
+            "MAX_SPANNED rank_of_rows base_of_zeros table_by_values rank_of_squares is_perfect blanks is_blank told_copy "
+            "is_told_copy"),
+        "ballgrids.chain.chains": (
+            "is_rising greatest_t risen rise_rows is_rise each_rise chain is_chain"),
+        "ballgrids.cone.cones": (
+            "wall_tables wall_rows behind are_beside level_weights weighted is_in_cone crossed"),
+        "ballgrids.weight.weights": (
+            "weights_of_adjoint level_number opposing is_opposing blocking is_blocking is_locally_densest critical_forms "
+            "critical_index"),
+        "ballgrids.cone.addresses": (
+            "address is_address face_of walk is_walk copies_beside are_alike_by_faces"),
+        "ballgrids.price.prices": (
+            "is_price_table price_of is_writing sum_of_writing least_price price_paper is_price_paper price_at "
+            "is_cheapest price_excess"),
+        "ballgrids.bound.bounds": (
+            "bound bound_paper is_bound_paper bound_by shortfall is_densest dual_product value_product"),
+    }
+    CLASSES = {
+        "Form": (
+            "__init__ diagonal size table determinant minors adjoint content value pairing led cleared __add__ __mul__ "
+            "__eq__ __len__ __str__"),
+        "Copy": (
+            "__init__ first name matrix size rays rows form led __eq__ __contains__ __len__ __iter__ __str__"),
     }
 
     def test_names(self):
         for module, names in self.LISTED.items():
             self.assertEqual([name for name in names.split() if name not in bound_at_top(MODULES[module])], [])
 
+    def test_classes(self):
+        defined = {node.name: node for tree in TREES.values() for node in tree.body if isinstance(node, ast.ClassDef)}
+        for name, methods in self.CLASSES.items():
+            own = {node.name for node in defined[name].body if isinstance(node, ast.FunctionDef)}
+            self.assertEqual(sorted(own), sorted(methods.split()))
+
     def test_arguments(self):
         told = {
             "lowest": "top bottom", "told_by": "lines line", "led_row": "matrix row", "led_table": "table matrix",
             "is_barrier": "size table value", "is_reducing": "form value", "rows_up_to": "form bound",
             "rows_of_value": "form number", "count_values": "form most", "keeper_order": "form matrix",
-            "is_multiple_between": "one other value", "first_unlike": "one other most", "alike_parts": "forms"}
+            "is_multiple_between": "one other value", "first_unlike": "one other most", "alike_parts": "forms",
+            "told_form": "name", "rays_of": "name", "frames": "", "has_ray": "name value",
+            "rank_of_rows": "size rows", "base_of_zeros": "size rows", "table_by_values": "size rows values",
+            "is_blank": "form value", "told_copy": "form", "is_told_copy": "form value", "is_rising": "form value",
+            "greatest_t": "form table", "risen": "form table", "rise_rows": "form table", "is_rise": "form value",
+            "each_rise": "form", "chain": "form", "is_chain": "form value", "wall_tables": "copy",
+            "wall_rows": "copy table", "behind": "copy table", "are_beside": "one other", "level_weights": "copy table",
+            "weighted": "copy weights", "is_in_cone": "copy table", "crossed": "copy table", "is_opposing": "form value",
+            "is_blocking": "form value", "critical_forms": "size", "critical_index": "form", "is_address": "form value",
+            "is_walk": "form value", "copies_beside": "form copy", "are_alike_by_faces": "one other",
+            "is_price_table": "size table bottom", "price_of": "form table bottom", "is_writing": "form value",
+            "sum_of_writing": "form writing", "is_price_paper": "form value", "price_at": "copy form",
+            "is_cheapest": "copy form", "price_excess": "form table bottom writing", "is_bound_paper": "form value",
+            "bound_by": "form paper"}
         for tree in TREES.values():
             for node in tree.body:
                 if isinstance(node, ast.FunctionDef) and node.name in told:
                     self.assertEqual([name.arg for name in node.args.args], told[node.name].split())
+
+
+class Attributes(unittest.TestCase):
+    def test_attributes_have_names_of_their_own(self):
+        inner = set()
+        for tree in TREES.values():
+            for node in ast.walk(tree):
+                if isinstance(node, ast.ClassDef):
+                    inner.update(told.name for told in node.body if isinstance(told, ast.FunctionDef))
+        stored = {
+            node.attr for tree in TREES.values() for node in ast.walk(tree)
+            if isinstance(node, ast.Attribute) and isinstance(node.ctx, ast.Store)}
+        self.assertEqual(stored & inner, set())
+        read = {
+            node.attr for tree in TREES.values() for node in ast.walk(tree)
+            if isinstance(node, ast.Attribute) and isinstance(node.ctx, ast.Load)}
+        self.assertEqual(read - stored - inner - set(METHODS), set())
+
+    def test_properties_change_nothing(self):
+        for tree in TREES.values():
+            for node in functions_of(tree):
+                if node.name in ("__eq__", "__len__", "__str__", "__iter__", "__contains__"):
+                    self.assertLessEqual(len(node.body), 2)
+                    self.assertIsInstance(node.body[-1], ast.Return)
+                if [told.id for told in node.decorator_list] == ["property"]:
+                    self.assertEqual(len(node.body), 2)
+                    self.assertIsInstance(node.body[1], ast.Return)
+
+
+class Stars(unittest.TestCase):
+    def test_stars_in_calls(self):
+        for path, tree in TREES.items():
+            for node in ast.walk(tree):
+                if isinstance(node, ast.Starred) and isinstance(node.ctx, ast.Load):
+                    self.assertIsInstance(node.value, (ast.Name, ast.Attribute), path)
+                if isinstance(node, ast.Call) and isinstance(node.func, ast.Name) and node.func.id in ("zip", "range"):
+                    self.assertFalse(node.keywords)
 
 
 class Readme(unittest.TestCase):

@@ -1,6 +1,6 @@
 """Echelons of lines of integers of any length; nothing is checked here."""
 
-from ballgrids.base.lines import cleared_line, dot, first_other_than_0, primitive, without
+from ballgrids.base.lines import cleared_line, dot, first_other_than_0, primitive, turned, without
 
 
 def steps_of(lines):
@@ -78,3 +78,17 @@ def kernel_of(lines):
         entries[place] = scale
         made.append(primitive([entries.get(column, 0) for column in range(width)][::-1]))
     return tuple(made[::-1])
+
+
+def mix_of(lines, line):
+    """The pair of a scale and of factors by which free lines tell a line, or None.
+
+    What makes 0 of the columns of all of them together tells each mix that the line is.
+    """
+    mixes = kernel_of(turned(lines + (line,)))
+    if not mixes:
+        return None
+    factors, scale = mixes[0][:-1], mixes[0][-1]
+    if scale > 0:
+        return (scale, tuple([-factor for factor in factors]))
+    return (-scale, factors)

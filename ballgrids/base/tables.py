@@ -1,7 +1,7 @@
 """Lists of lines of integers [1.4], [1.5]."""
 
-from ballgrids.base.echelons import echelon_of, kernel_of, steps_of
-from ballgrids.base.lines import determinant_of, multiplied, turned
+from ballgrids.base.echelons import echelon_of, kernel_of, mix_of, steps_of
+from ballgrids.base.lines import determinant_of, multiplied
 from ballgrids.base.numbers import are_integers
 from ballgrids.errors import InvalidOperation, InvalidRow, InvalidTable, TooMany
 
@@ -69,11 +69,4 @@ def told_by(lines, line):
         raise InvalidRow("the line must be a tuple of as many integers as the width")
     if len(steps_of(lines)) != len(lines):
         raise InvalidOperation("the lines must be free")
-    # What makes 0 of the columns together tells each mix that the line is.
-    mixes = kernel_of(turned(lines + (line,)))
-    if not mixes:
-        return None
-    factors, scale = mixes[0][:-1], mixes[0][-1]
-    if scale > 0:
-        return (scale, tuple([-factor for factor in factors]))
-    return (-scale, factors)
+    return mix_of(lines, line)

@@ -66,3 +66,26 @@ def minors_of(table):
 def entries_of(table):
     """All numbers of a table, row by row."""
     return [entry for row in table for entry in row]
+
+
+def table_sum(one, other):
+    """The table of the sums of the numbers at equal places."""
+    return tuple([
+        tuple([first + second for first, second in zip(row, behind)]) for row, behind in zip(one, other)
+    ])
+
+
+def table_difference(one, other):
+    """The table of the differences of the numbers at equal places."""
+    return table_sum(one, scaled(other, -1))
+
+
+def made_together(one, other):
+    """The sum of the products of the numbers of two tables at equal places [0.9]."""
+    return dot(entries_of(one), entries_of(other))
+
+
+def squares_sum(rows, weights):
+    """The sum of the squares of some rows, at least one, each multiplied by its weight."""
+    weighted = [[weight * number for number in row] for row, weight in zip(rows, weights)]
+    return multiplied(turned(weighted), rows)

@@ -5,7 +5,8 @@ from ballgrids.base.kinds import is_long_row
 from ballgrids.base.lines import adjugate, determinant_of, first_other_than_0, leading_block
 from ballgrids.base.numbers import divisor_of, is_integer, is_whole
 from ballgrids.errors import InvalidForm, InvalidNumber, InvalidOperation
-from ballgrids.form.algebra import divided, entries_of, image, led_by, minors_of, pairing_of, scaled, value_at
+from ballgrids.form.algebra import (
+    divided, entries_of, image, led_by, minors_of, pairing_of, scaled, table_sum, value_at)
 from ballgrids.form.matrices import fits_table, need_matrix, need_row, need_size, need_table, size_of
 
 SMALLEST = ((1, 0), (0, 1))
@@ -113,13 +114,6 @@ def diagonal_table(numbers):
     """The table with these numbers on the diagonal and 0 elsewhere."""
     places = range(len(numbers))
     return tuple([tuple([numbers[row] if row == column else 0 for column in places]) for row in places])
-
-
-def table_sum(one, other):
-    """The table of the sums of the numbers at equal places."""
-    return tuple([
-        tuple([first + second for first, second in zip(row, behind)]) for row, behind in zip(one, other)
-    ])
 
 
 def has_positive_minors(table):

@@ -1,10 +1,10 @@
 """Rows, tables and matrices [0.8] to [0.10], [2.1]."""
 
 from ballgrids.base.kinds import is_long_matrix
-from ballgrids.base.lines import dot, first_other_than_0, multiplied, turned, unit_lines
+from ballgrids.base.lines import first_other_than_0, multiplied, turned, unit_lines
 from ballgrids.base.numbers import are_integers, is_integer
 from ballgrids.errors import InvalidMatrix, InvalidNumber, InvalidOperation, InvalidRow, InvalidTable
-from ballgrids.form.algebra import entries_of, image, led_by, made_normal, moved_by, undone, value_at
+from ballgrids.form.algebra import image, led_by, made_normal, made_together, moved_by, undone, value_at
 
 SIZES = (2, 3, 4)
 
@@ -151,4 +151,4 @@ def together(one, other):
     size = size_of(one)
     need_table(size, one)
     need_table(size, other)
-    return dot(entries_of(one), entries_of(other))
+    return made_together(one, other)

@@ -28,26 +28,26 @@ def shadows_of(table):
 class Line:
     """The rows with a tail whose first entry is from `low` to `high`.
 
-    The value at the entry x is (first x + twice) x + rest.
+    The value at the entry x is (factor x + twice) x + rest.
     """
 
     def __init__(self, tail, ends, worths):
         self.tail = tail
         self.low, self.high = ends
-        self.first, self.twice, self.rest = worths
+        self.factor, self.twice, self.rest = worths
 
     def value(self, entry):
         """The value of the row with this entry."""
-        return (self.first * entry + self.twice) * entry + self.rest
+        return (self.factor * entry + self.twice) * entry + self.rest
 
     def worths(self):
         """The values of all rows of the line."""
-        first, twice, rest = self.first, self.twice, self.rest
-        return [(first * entry + twice) * entry + rest for entry in range(self.low, self.high + 1)]
+        factor, twice, rest = self.factor, self.twice, self.rest
+        return [(factor * entry + twice) * entry + rest for entry in range(self.low, self.high + 1)]
 
     def narrowed(self, low, high):
         """The line with other ends."""
-        return Line(self.tail, (low, high), (self.first, self.twice, self.rest))
+        return Line(self.tail, (low, high), (self.factor, self.twice, self.rest))
 
 
 class Search:

@@ -1,0 +1,1 @@
+"""Chains of ever denser forms."""

@@ -1,0 +1,83 @@
+"""Rises and chains of forms [8.1] to [8.5]."""
+
+from ballgrids.base.kinds import is_long_table
+from ballgrids.base.numbers import divisor_of, ratio_of
+from ballgrids.chain.rising import chain_tables, greatest_ratio, raised_fully, rises, turned_up
+from ballgrids.errors import InvalidOperation, InvalidTable
+from ballgrids.form.algebra import divided, entries_of, made_together
+from ballgrids.form.forms import Form, form_with
+from ballgrids.form.needs import need_form
+from ballgrids.short.search import shortest
+from ballgrids.span.spans import blanks, is_blank, is_perfect
+
+
+def is_rising(form, value):
+    """Whether the value is a table, with integers of any length, that rises for the form."""
+    return is_blank(form, value) and rises(form.table, value)
+
+
+def need_rising(form, table):
+    """Raises the error if the value is no table that rises for the form."""
+    need_form(form)
+    if not is_long_table(form.size, table):
+        raise InvalidTable("a table must have as many rows as the size and be symmetric")
+    if not is_rising(form, table):
+        raise InvalidOperation("the table must rise for the form")
+
+
+def greatest_t(form, table):
+    """The greatest t of a table that rises [8.2], a ratio."""
+    need_rising(form, table)
+    content = divisor_of(entries_of(table))
+    top, bottom = greatest_ratio(form.table, divided(table, content))
+    return ratio_of(top, bottom * content)
+
+
+def risen(form, table):
+    """The risen form."""
+    need_rising(form, table)
+    return form_with(raised_fully(form.table, divided(table, divisor_of(entries_of(table)))))
+
+
+def rise_rows(form, table):
+    """The ascending tuple of the least rows of the risen form that are none of the form."""
+    made = risen(form, table)
+    known = shortest(form.table)[1]
+    return tuple([row for row in shortest(made.table)[1] if row not in known])
+
+
+def is_rise(form, value):
+    """Whether the value is a rise of the form [8.5]."""
+    need_form(form)
+    if not isinstance(value, Form) or value.size != form.size or value.content != 1:
+        return False
+    least, rows = shortest(form.table)
+    value_least, value_rows = shortest(value.table)
+    if len(value_rows) <= len(rows) or any([row not in value_rows for row in rows]):
+        return False
+    made = made_together(value.table, form.adjoint.table)
+    return least * made <= value_least * form.size * form.determinant
+
+
+def each_rise(form):
+    """A generator of the forms that are risen by the tables of `blanks`, or by their opposites."""
+    for table in blanks(form):
+        yield form_with(raised_fully(form.table, turned_up(form.table, table)))
+
+
+def chain(form):
+    """Any chain of the form."""
+    need_form(form)
+    return tuple([form_with(table) for table in chain_tables(form.cleared().table)])
+
+
+def is_chain(form, value):
+    """Whether the value is a chain of the form."""
+    need_form(form)
+    if not isinstance(value, tuple) or len(value) == 0 or value[0] != form.cleared():
+        return False
+    for ahead, behind in zip(value, value[1:]):
+        if not is_rise(ahead, behind):
+            return False
+    # A perfect form has no rise; so no form ahead of the last one is perfect.
+    return is_perfect(value[-1])

@@ -1,0 +1,1 @@
+"""Told forms, their copies, and the cones of these."""

@@ -1,0 +1,1 @@
+"""Prices of positive tables."""

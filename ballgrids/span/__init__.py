@@ -1,0 +1,1 @@
+"""What rows tell about a table."""

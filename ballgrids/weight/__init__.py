@@ -1,0 +1,1 @@
+"""Weights of the adjoint along the least rows."""
