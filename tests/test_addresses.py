@@ -7,6 +7,7 @@ from ballgrids.cone.addresses import (
     address, are_alike_by_faces, copies_beside, face_of, is_address, is_walk, walk)
 from ballgrids.cone.cones import (
     are_beside, behind, crossed, is_in_cone, level_weights, wall_rows, wall_tables, weighted)
+from ballgrids.cone.faces import are_faces_alike, leads_face
 from ballgrids.cone.told import NAMES, Copy, frames, rays_of, told_form
 from ballgrids.errors import InvalidCopy, InvalidForm, InvalidOperation
 from ballgrids.form.forms import Form
@@ -222,6 +223,13 @@ class Walks(unittest.TestCase):
         self.assertIs(is_walk(form, (near[0], copy)), True)
         self.assertIs(is_walk(form, (near[0],)), False)
 
+    def test_copies_of_another_size_on_the_way(self):
+        # The forms of these copies begin as those of the right size do.
+        copy = Copy("A3", ((-1, 0, 0), (0, 1, 0), (0, 0, 1)))
+        self.assertEqual([row[:2] for row in copy.form.table[:2]], [(2, -1), (-1, 2)])
+        self.assertIs(is_walk(PLANE, (Copy.first(2), copy)), False)
+        self.assertIs(is_walk(PLANE, (copy,)), False)
+
     def test_judging(self):
         for form in (PLANE, CUBE, BODY, GRID, TWENTY_FOUR):
             found = walk(form)
@@ -311,6 +319,24 @@ class Alike(unittest.TestCase):
         self.assertEqual(face_of(ring)[1:], face_of(fork)[1:])
         self.assertIs(are_alike_by_faces(ring, fork), False)
         self.assertIs(are_alike(ring, fork), False)
+
+    def test_unlike_scales(self):
+        # The same rows and weights: they tell a table, and with another scale the third part of it.
+        one, other = TWENTY_FOUR.adjoint, TWENTY_FOUR.adjoint * 3
+        self.assertEqual(face_of(one)[::2], face_of(other)[::2])
+        self.assertEqual((face_of(one)[1], face_of(other)[1]), (3, 1))
+        self.assertIs(are_alike_by_faces(one, other), False)
+
+    def test_only_matrices_lead_faces(self):
+        face = [((0, 1), 1), ((1, 0), 1)]
+        self.assertTrue(leads_face(((0, 1), (1, 0)), face, face))
+        self.assertTrue(leads_face(((0, -1), (1, 0)), face, face))
+        self.assertFalse(leads_face(((2, 0), (0, 1)), face, [((0, 1), 1), ((2, 0), 1)]))
+        self.assertFalse(leads_face(((0, 1), (1, 0)), face, [((0, 1), 1), ((1, 0), 2)]))
+        self.assertFalse(leads_face(((1, 1), (0, 1)), face, face))
+        self.assertFalse(are_faces_alike([((0, 1), 1), ((2, 1), 1)], face))
+        self.assertTrue(are_faces_alike([((0, 1), 1), ((1, 2), 1)], face))
+        self.assertFalse(are_faces_alike(face, face[:1]))
 
     def test_weights_in_another_order(self):
         tables = [weighted(Copy.first(3), weights) for weights in (

@@ -1,14 +1,16 @@
 """Rises and chains of forms [8.1] to [8.5]."""
 
 from ballgrids.base.kinds import is_long_table
-from ballgrids.base.numbers import divisor_of, ratio_of
-from ballgrids.chain.rising import chain_tables, greatest_ratio, raised_fully, rises, turned_up
+from ballgrids.base.lines import turned
+from ballgrids.chain.rising import chain_tables, greatest_ratio, raised_fully, ratio_of_reduced, rises, turned_up
 from ballgrids.errors import InvalidOperation, InvalidTable
-from ballgrids.form.algebra import divided, entries_of, made_together
+from ballgrids.form.algebra import led_by, made_together
 from ballgrids.form.forms import Form, form_with
 from ballgrids.form.needs import need_form
+from ballgrids.short.reducing import reduced_lattice
 from ballgrids.short.search import shortest
-from ballgrids.span.spans import blanks, is_blank, is_perfect
+from ballgrids.span.spans import blanks, is_blank
+from ballgrids.span.uppers import count_of_uppers, rank_of_squares_of
 
 
 def is_rising(form, value):
@@ -28,15 +30,13 @@ def need_rising(form, table):
 def greatest_t(form, table):
     """The greatest t of a table that rises [8.2], a ratio."""
     need_rising(form, table)
-    content = divisor_of(entries_of(table))
-    top, bottom = greatest_ratio(form.table, divided(table, content))
-    return ratio_of(top, bottom * content)
+    return greatest_ratio(form.table, table)
 
 
 def risen(form, table):
     """The risen form."""
     need_rising(form, table)
-    return form_with(raised_fully(form.table, divided(table, divisor_of(entries_of(table)))))
+    return form_with(raised_fully(form.table, table, greatest_ratio(form.table, table)))
 
 
 def rise_rows(form, table):
@@ -49,10 +49,23 @@ def rise_rows(form, table):
 def is_rise(form, value):
     """Whether the value is a rise of the form [8.5]."""
     need_form(form)
-    if not isinstance(value, Form) or value.size != form.size or value.content != 1:
+    if not is_cleared(form.size, value):
         return False
-    least, rows = shortest(form.table)
-    value_least, value_rows = shortest(value.table)
+    return has_risen(form, shortest(form.table), value, shortest(value.table))
+
+
+def is_cleared(size, value):
+    """Whether the value is a form of the size without a common divisor."""
+    return isinstance(value, Form) and value.size == size and value.content == 1
+
+
+def has_risen(form, ahead, value, behind):
+    """Whether a form is a rise of one of its size, if it has no common divisor.
+
+    For each of them the pair of the least value and the least rows is told, too.
+    """
+    least, rows = ahead
+    value_least, value_rows = behind
     if len(value_rows) <= len(rows) or any([row not in value_rows for row in rows]):
         return False
     made = made_together(value.table, form.adjoint.table)
@@ -61,8 +74,12 @@ def is_rise(form, value):
 
 def each_rise(form):
     """A generator of the forms that are risen by the tables of `blanks`, or by their opposites."""
-    for table in blanks(form):
-        yield form_with(raised_fully(form.table, turned_up(form.table, table)))
+    tables = blanks(form)
+    lattice, basis = reduced_lattice(form.table)
+    for table in tables:
+        height = turned_up(form.table, table)
+        ratio = ratio_of_reduced(lattice, led_by(height, turned(basis)))
+        yield form_with(raised_fully(form.table, height, ratio))
 
 
 def chain(form):
@@ -76,8 +93,13 @@ def is_chain(form, value):
     need_form(form)
     if not isinstance(value, tuple) or len(value) == 0 or value[0] != form.cleared():
         return False
-    for ahead, behind in zip(value, value[1:]):
-        if not is_rise(ahead, behind):
+    ahead, known = value[0], shortest(value[0].table)
+    for behind in value[1:]:
+        if not is_cleared(form.size, behind):
             return False
+        found = shortest(behind.table)
+        if not has_risen(ahead, known, behind, found):
+            return False
+        ahead, known = behind, found
     # A perfect form has no rise; so no form ahead of the last one is perfect.
-    return is_perfect(value[-1])
+    return rank_of_squares_of(known[1]) == count_of_uppers(form.size)

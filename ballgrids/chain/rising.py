@@ -4,13 +4,13 @@ A table P is kept at a ratio t, in the place of the table P + t H, as a table of
 that of bottom * P + top * H, t being top / bottom.
 """
 
-from ballgrids.base.lines import adjugate, multiplied, turned, unit_lines
+from ballgrids.base.lines import adjugate, dot, multiplied, turned, unit_lines
 from ballgrids.base.numbers import divisor_of, ratio_of
 from ballgrids.form.algebra import (
     divided, entries_of, led_by, made_together, scaled, table_sum, undone, value_at)
 from ballgrids.form.forms import has_positive_minors
 from ballgrids.short.reducing import reduced_lattice
-from ballgrids.short.search import shortest
+from ballgrids.short.search import least_rows_of
 from ballgrids.span.uppers import zero_tables
 
 
@@ -53,39 +53,79 @@ def nearer(table, height, low, high, steps):
     return low, high
 
 
-def ratio_beyond(table, height, least):
+def ratio_beyond(table, height):
     """A ratio above the greatest t at which the table is still positive.
 
     There the least value is too little. As the room for such a ratio can be small, more
-    and more steps are made between the trials.
+    and more steps are made between the trials. The table is reduced.
     """
     low, high = first_powers(table, height)
     steps = 1
-    while shortest(raised(table, height, low))[0] == least * low[1]:
+    while reduced_lattice(raised(table, height, low))[0][0][0] == table[0][0] * low[1]:
         low, high = nearer(table, height, low, high, steps)
         steps = 2 * steps
     return low
 
 
-def greatest_ratio(table, height):
-    """The greatest t of a table that rises [8.2].
+def sign_values(table, height):
+    """A pair of the values of both tables for each row of -1, 0 and 1, or its opposite."""
+    found = [((), 0, 0)]
+    for place, line in enumerate(table):
+        other = height[place]
+        found = [
+            (signs + (sign,), value + sign * (sign * line[place] + mixed), lift + sign * (sign * other[place] + pulled))
+            for signs, value, lift in found
+            for mixed, pulled in [(2 * dot(line, signs), 2 * dot(other, signs))]
+            for sign in ((0, 1) if place == 0 else (-1, 0, 1))
+        ]
+    return [(value, lift) for signs, value, lift in found]
+
+
+def short_ratio(table, height):
+    """The least of the ratios that the rows of -1, 0 and 1 tell, or None; the table is reduced."""
+    least, best = table[0][0], None
+    for value, lift in sign_values(table, height):
+        if lift < 0 and (best is None or (value - least) * best[1] < best[0] * -lift):
+            best = (value - least, -lift)
+    return best
+
+
+def first_ratio(table, height):
+    """A ratio that is at least the greatest t, and at which the table is positive; the table is reduced.
+
+    Nearly always the shortest rows tell one. Where they do not, it has to be enclosed.
+    """
+    best = short_ratio(table, height)
+    if best is not None and is_positive_at(table, height, best):
+        return ratio_of(best[0], best[1])
+    return ratio_beyond(table, height)
+
+
+def ratio_of_reduced(table, height):
+    """The greatest t of a table that rises for a reduced one [8.2].
 
     At a greater ratio a row with too little a value tells a lesser one, at which it has
     the wanted value. That ends, as the rows with such values are finitely many.
     """
-    least = shortest(table)[0]
-    ratio = ratio_beyond(table, height, least)
+    ratio = first_ratio(table, height)
     while True:
-        value, rows = shortest(raised(table, height, ratio))
-        if value == least * ratio[1]:
+        # The first row of the basis has the least value.
+        lattice, basis = reduced_lattice(raised(table, height, ratio))
+        if lattice[0][0] == table[0][0] * ratio[1]:
             return ratio
-        row = rows[0]
-        ratio = ratio_of(value_at(table, row) - least, -value_at(height, row))
+        row = basis[0]
+        ratio = ratio_of(value_at(table, row) - table[0][0], -value_at(height, row))
 
 
-def raised_fully(table, height):
+def greatest_ratio(table, height):
+    """The greatest t of a table that rises, reckoned in letters in which the first table is reduced."""
+    lattice, basis = reduced_lattice(table)
+    return ratio_of_reduced(lattice, led_by(height, turned(basis)))
+
+
+def raised_fully(table, height, ratio):
     """The table at the greatest t, without a common divisor."""
-    made = raised(table, height, greatest_ratio(table, height))
+    made = raised(table, height, ratio)
     return divided(made, divisor_of(entries_of(made)))
 
 
@@ -106,12 +146,14 @@ def chain_tables(table):
     so the blank tables, have little numbers. The last blank table moves mostly the last
     letters, which brings great and little numbers of the diagonal together.
     """
-    made, back = [table], unit_lines(len(table))
+    made, unit = [table], unit_lines(len(table))
+    back = unit
     while True:
         table, basis = reduced_lattice(table)
-        base = zero_tables(shortest(table)[1])
+        base = zero_tables(least_rows_of(table, unit))
         if not base:
             return made
         back = multiplied(undone(turned(basis)), back)
-        table = raised_fully(table, turned_up(table, base[-1]))
+        height = turned_up(table, base[-1])
+        table = raised_fully(table, height, ratio_of_reduced(table, height))
         made.append(led_by(table, back))

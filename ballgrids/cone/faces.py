@@ -5,7 +5,7 @@ A face is kept as the pairs of its rows and their weights.
 
 from ballgrids.base.echelons import steps_of
 from ballgrids.base.lines import adjugate, determinant_of, multiplied, turned
-from ballgrids.form.algebra import divided, entries_of, image, made_normal, pairing_of, squares_sum
+from ballgrids.form.algebra import divided, image, made_normal, pairing_of, squares_sum
 
 
 def independent_pairs(face):
@@ -25,12 +25,8 @@ def signed_rows(face, weight):
 
 
 def leading_matrix(rows, images):
-    """The matrix that leads independent rows to their images, or None if its numbers are no integers."""
-    divisor = determinant_of(rows)
-    made = multiplied(turned(images), turned(adjugate(rows)))
-    if any([entry % divisor != 0 for entry in entries_of(made)]):
-        return None
-    return divided(made, divisor)
+    """The square of integers that leads independent rows to their images, if there is one."""
+    return divided(multiplied(turned(images), turned(adjugate(rows))), determinant_of(rows))
 
 
 def leads_face(matrix, face, other):
@@ -67,7 +63,8 @@ class FaceSearch:
         """Looks for a matrix that leads the first rows to these images."""
         if len(images) == len(self.told):
             matrix = leading_matrix(tuple([row for row, _ in self.told]), tuple(images))
-            if matrix is not None and leads_face(matrix, self.face, self.other):
+            # If only fractions lead to the images, the integers do not, which is seen here.
+            if leads_face(matrix, self.face, self.other):
                 self.found = matrix
             return
         for row in signed_rows(self.other, self.told[len(images)][1]):
@@ -82,6 +79,4 @@ def adjoint_of_face(face):
 
 def are_faces_alike(face, other):
     """Whether some matrix leads a face to another one, up to signs, with equal weights."""
-    if sorted([weight for _, weight in face]) != sorted([weight for _, weight in other]):
-        return False
     return FaceSearch(face, other).found is not None

@@ -36,7 +36,7 @@ FIRST = {2: "A2", 3: "A3", 4: "A4"}
 
 def need_name(name):
     """Raises the error if the value is no name of a told form."""
-    if not isinstance(name, str) or name not in NAMES:
+    if name not in NAMES:
         raise UnknownName(name)
 
 

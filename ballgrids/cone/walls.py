@@ -8,7 +8,7 @@ from ballgrids.base.lines import multiplied
 from ballgrids.cone.told import copy_with
 from ballgrids.cone.ways import WAYS
 from ballgrids.form.algebra import (
-    divided, entries_of, led_by, made_together, moved_by, table_difference, table_sum, undone, value_at)
+    led_by, made_together, moved_by, table_difference, table_sum, undone, value_at)
 
 # For each ray the table that makes, together with a table, twice its weight along the ray.
 # For `D4` these are the weights that are 0 along (0, 1, -1, -1) and (1, 0, -1, -1).
@@ -121,25 +121,26 @@ def wall_without(name, places):
     return tuple([part[0] for part in parts])
 
 
-def wall_with(copy, table):
-    """The wall of a copy with this wall table, or None; the values at the rays tell a table."""
+def wall_with(copy, table, height=2):
+    """The wall of a copy that leaves out the rays at which a table has this value, or None.
+
+    At all other rays the table must be 0. The values at the rays tell a table. So it is
+    the wall table, or a multiple of it.
+    """
     values = [value_at(table, ray) for ray in copy.rays]
-    if any([value not in (0, 2) for value in values]):
+    if any([value not in (0, height) for value in values]):
         return None
-    return wall_without(copy.name, tuple([place for place, value in enumerate(values) if value == 2]))
+    return wall_without(copy.name, tuple([place for place, value in enumerate(values) if value == height]))
 
 
 def wall_between(one, other):
     """The wall of the first copy behind which the other one lies, or None.
 
-    The wall table tells the form behind the wall [9.3], and this tells the copy.
+    The wall table, taken twice for a copy of A2, tells the form behind the wall [9.3],
+    and this tells the copy.
     """
     table = table_difference(other.form.table, one.form.table)
-    if one.name == "A2":
-        if any([entry % 2 != 0 for entry in entries_of(table)]):
-            return None
-        table = divided(table, 2)
-    return wall_with(one, table)
+    return wall_with(one, table, 4 if one.name == "A2" else 2)
 
 
 def step_over(name, wall):

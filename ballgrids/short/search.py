@@ -133,8 +133,12 @@ def valued_rows(basis, lines):
     return sorted([pair for line in lines for pair in zip(line.worths(), led_line(spread, line))])
 
 
+def least_rows_of(lattice, basis):
+    """The ascending list of the least rows of a reduced table, led by the rows of a basis."""
+    return sorted(led_lines(basis, lines_at(Search(lattice, lattice[0][0]))))
+
+
 def shortest(table):
     """The pair of the least value and the ascending list of the least rows."""
     lattice, basis = reduced_lattice(table)
-    least = lattice[0][0]
-    return least, sorted(led_lines(basis, lines_at(Search(lattice, least))))
+    return lattice[0][0], least_rows_of(lattice, basis)

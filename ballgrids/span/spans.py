@@ -76,9 +76,9 @@ def told_copy(form):
     """Any pair of a copy and a number that makes the perfect form of the form of the copy, or None."""
     if not is_perfect(form):
         return None
-    # The number of least rows tells to which told form of the size a perfect one is alike [7.3].
+    # The number of least rows tells to which told form a perfect one is alike [7.3].
     many = len(shortest(form.table)[1])
-    name = [told for told in NAMES if len(TABLES[told]) == form.size and len(RAYS[told]) == many][0]
+    name = [told for told in NAMES if len(RAYS[told]) == many][0]
     matrix = matrices_of_tables(divided(form.table, form.content), TABLES[name], 1)[0]
     return (copy_with(name, matrix), form.content)
 
