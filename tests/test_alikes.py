@@ -486,6 +486,12 @@ class Blocks(unittest.TestCase):
     def test_equal_blocks_ahead_only(self):
         one = Form(((2, 1, 0), (1, 2, 0), (0, 0, 4)))
         self.assertEqual(matrices_between(one, Form(((2, 0, 0), (0, 2, 0), (0, 0, 3)))), ())
+        for table, another in (
+                (((2, -1, -1), (-1, 4, 0), (-1, 0, 4)), ((2, 0, 0), (0, 4, 2), (0, 2, 4))),
+                (((2, -1, 1), (-1, 4, -1), (1, -1, 4)), ((2, 0, 0), (0, 4, -2), (0, -2, 4)))):
+            self.assertEqual(det(table), det(another))
+            self.assertEqual(matrices_between(Form(table), Form(another)), ())
+            self.assertEqual(matrices_between(Form(another), Form(table)), slow_matrices(another, table))
         other = Form(((2, 0, 1, 0), (0, 2, 0, 1), (1, 0, 5, 0), (0, 1, 0, 5)))
         another = Form(((2, 0, 1, 1), (0, 2, 0, 0), (1, 0, 5, 0), (1, 0, 0, 5)))
         self.assertEqual(matrices_between(other, another), slow_matrices(other.table, another.table))

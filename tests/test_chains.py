@@ -163,6 +163,11 @@ class Rises(unittest.TestCase):
         self.assertFalse(is_rise(BODY, CUBE))
         self.assertFalse(is_rise(Form.diagonal(1, 2), Form.diagonal(1, 3)))
         self.assertTrue(is_rise(Form.diagonal(1, 2), Form.diagonal(1, 1)))
+        # More rows, but not those of the first one.
+        other = Form(((4, 2), (2, 3)))
+        self.assertEqual((least_rows(Form.diagonal(1, 2)), least_rows(other)), (((1, 0),), ((0, 1), (1, -1))))
+        self.assertLessEqual(product_sum(other.table, Form.diagonal(1, 2).adjoint.table), 3 * 2 * 2)
+        self.assertFalse(is_rise(Form.diagonal(1, 2), other))
         # The rows of the second one and one more, but it does not lie on the side that rises.
         low = critical_like()
         self.assertEqual([row for row in least_rows(low[0]) if row not in least_rows(low[1])], [])

@@ -112,6 +112,8 @@ class Writings(unittest.TestCase):
         self.assertIs(is_writing(PLANE, (rows, (7 * 10 ** 99,) * 3, 7 * 10 ** 99)), True)
         for wrong in (
                 (rows[::-1], weights, scale), (rows + rows[-1:], weights + (1,), scale), (rows, weights, 2),
+                ((rows[0], rows[2], rows[1]), weights, scale), ((rows[1], rows[0], rows[2]), weights, scale),
+                (rows[:1] + rows, (1, 1, 2, 2), 2), (rows + rows[-1:], (2, 2, 1, 1), 2),
                 (rows, (2, 2, 2), 1), (rows, (1, 1), scale), (rows, (1, 1, 1, 0), scale), (rows + ((1, 2),), (1, 1, 1, 0), 1),
                 (((0, -1), (1, 0), (1, 1)), weights, scale), (((0, 1), (1, 0), (-1, -1)), weights, scale),
                 (((0, 0),) + rows, (1,) + weights, 1), (list(rows), weights, scale), (rows, list(weights), scale),
@@ -260,6 +262,9 @@ class Prices(unittest.TestCase):
                 (((2, -1), (-1, 1)), 1) + UNITS, (unit(2), 1) + UNITS, (unit(3), 1) + UNITS, ((UNITS, table, bottom)),
                 (table, bottom, UNITS), (table, bottom, UNITS[0], UNITS[1], True), (((2, -1), (-1, True)), 1) + UNITS):
             self.assertIs(is_price_paper(PLANE, wrong), False, wrong)
+        # The value is the bottom at all rows of the writing, but less at other rows.
+        for table in (((1, 5, 0), (5, 1, 0), (0, 0, 1)), ((2, 2, 0), (2, 2, 0), (0, 0, 2)), ((9, 6, 0), (6, 9, 0), (0, 0, 9))):
+            self.assertIs(is_price_paper(CUBE, (table, table[0][0]) + writing_of(CUBE)), False)
         for form in FORMS:
             for wrong in WRONG:
                 self.assertIs(is_price_paper(form, wrong), False)

@@ -185,6 +185,12 @@ class Critical(unittest.TestCase):
                 if one.size == other.size:
                     self.assertIsNone(multiple_between(one, other))
 
+    def test_10_5_unlike_determinants(self):
+        for size in (2, 3, 4):
+            told = [form.determinant for form in critical_forms(size)]
+            self.assertEqual(len(set(told)), len(told))
+            self.assertTrue(all(form.content == 1 for form in critical_forms(size)))
+
     def test_10_5_indices(self):
         chance = chance_of(109)
         for size in (2, 3, 4):
@@ -192,6 +198,7 @@ class Critical(unittest.TestCase):
                 matrix = some_matrix(chance, size, 5, 3)
                 for told in (form, form * 2, form.led(matrix), form.led(matrix) * 35, form * (10 ** 50)):
                     self.assertEqual(critical_index(told), index)
+                    self.assertIsNotNone(multiple_between(told, form))
         for form in NONE:
             self.assertIsNone(critical_index(form))
 
@@ -204,7 +211,7 @@ class Critical(unittest.TestCase):
     def test_10_5_no_others(self):
         for form in many_forms(110, 40) + [Form(some_table(chance_of(seed), 4, 1)) for seed in range(20)]:
             if level_number(form):
-                self.assertIn(critical_index(form), range(len(critical_forms(form.size))))
+                self.assertIsNotNone(multiple_between(form, critical_forms(form.size)[critical_index(form)]))
             else:
                 self.assertIsNone(critical_index(form))
 
@@ -283,6 +290,14 @@ class Tables(unittest.TestCase):
             for wrong in WRONG:
                 self.assertIs(is_blocking(form, wrong), False)
             self.assertIs(is_blocking(form, form.table), False)
+        # Too little at one of the least rows.
+        wide = Form(((5, 1), (1, 5)))
+        self.assertLess(product_sum(((1, 0), (0, -2)), wide.adjoint.table), 0)
+        self.assertIs(is_blocking(wide, ((1, 0), (0, -2))), False)
+        self.assertIs(is_opposing(wide, ((1, 0), (0, -2))), False)
+        self.assertIs(is_opposing(wide, ((-2, 0), (0, 1))), False)
+        self.assertIs(is_opposing(wide, ((0, 1), (1, 0))), True)
+        self.assertIs(is_blocking(wide, ((0, 1), (1, 0))), False)
         # With the level number 1 a table can block, but none oppose.
         form = critical_forms(4)[8]
         self.assertTrue(is_blocking(form, blocking(form)))

@@ -59,7 +59,6 @@ def are_turned_alike(one, other):
 
 def keepers(form):
     """The ascending tuple of the matrices that take the form to itself."""
-    need_form(form)
     return matrices_between(form, form)
 
 

@@ -70,7 +70,6 @@ def is_densest(form):
 
 def dual_product(form):
     """The product of the least values of the form and of its adjoint, divided by the determinant, a ratio."""
-    need_form(form)
     return ratio_of(least_value(form) * least_value(form.adjoint), form.determinant)
 
 

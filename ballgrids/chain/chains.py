@@ -49,20 +49,21 @@ def rise_rows(form, table):
 def is_rise(form, value):
     """Whether the value is a rise of the form [8.5]."""
     need_form(form)
-    if not is_cleared(form.size, value):
+    if not is_cleared(value):
         return False
     return has_risen(form, shortest(form.table), value, shortest(value.table))
 
 
-def is_cleared(size, value):
-    """Whether the value is a form of the size without a common divisor."""
-    return isinstance(value, Form) and value.size == size and value.content == 1
+def is_cleared(value):
+    """Whether the value is a form without a common divisor."""
+    return isinstance(value, Form) and value.content == 1
 
 
 def has_risen(form, ahead, value, behind):
-    """Whether a form is a rise of one of its size, if it has no common divisor.
+    """Whether a form without a common divisor is a rise of another one.
 
-    For each of them the pair of the least value and the least rows is told, too.
+    For each of them the pair of the least value and the least rows is told, too. Forms of
+    unlike sizes have no rows in common.
     """
     least, rows = ahead
     value_least, value_rows = behind
@@ -95,7 +96,7 @@ def is_chain(form, value):
         return False
     ahead, known = value[0], shortest(value[0].table)
     for behind in value[1:]:
-        if not is_cleared(form.size, behind):
+        if not is_cleared(behind):
             return False
         found = shortest(behind.table)
         if not has_risen(ahead, known, behind, found):

@@ -20,7 +20,7 @@ def writes(table, rows, weights, scale):
     """Whether rows, weights and a scale, whatever they are, are a writing of the table."""
     if not are_writing_rows(len(table), rows) or not is_long_row(len(rows), weights) or not is_whole(scale):
         return False
-    if min(weights) < 1 or scale < 1:
+    if min(weights) < 1:
         return False
     return squares_sum(rows, weights) == scaled(table, scale)
 

@@ -40,15 +40,12 @@ def opposing_table(table):
 
 def table_at_one(rows, index):
     """A table that is above 0 at the row with the index, and 0 at the other ones; their squares are independent."""
-    for height in zero_tables(without(rows, index)):
-        value = value_at(height, rows[index])
-        if value != 0:
-            return scaled(height, -1) if value < 0 else height
-    return None
+    tables = [height for height in zero_tables(without(rows, index)) if value_at(height, rows[index]) != 0]
+    return tables[0] if value_at(tables[0], rows[index]) > 0 else scaled(tables[0], -1)
 
 
 def blocking_table(table):
-    """A blocking table, or None, for a table that has an opposing one or independent squares."""
+    """A blocking table of a table that has no weights, or has one that is 0."""
     reduced, basis = reduced_lattice(table)
     rows = shortest(reduced)[1]
     height = blank_below(reduced, rows)
@@ -58,8 +55,5 @@ def blocking_table(table):
         many = -(whole // made_together(height, adjugate(reduced)))
         height = table_sum(scaled(height, many), reduced)
     else:
-        weights = only_weights(reduced, rows)[1]
-        if 0 not in weights:
-            return None
-        height = table_at_one(rows, weights.index(0))
+        height = table_at_one(rows, only_weights(reduced, rows)[1].index(0))
     return led_by(height, undone(turned(basis)))

@@ -1,10 +1,9 @@
 """Weights of the adjoint along the least rows, and critical forms [10.1] to [10.7]."""
 
-from ballgrids.alike.fitting import matrices_of_tables
 from ballgrids.base.kinds import is_long_table
-from ballgrids.base.lines import adjugate, determinant_of
+from ballgrids.base.lines import adjugate
 from ballgrids.base.numbers import ratio_of
-from ballgrids.form.algebra import divided, made_together, value_at
+from ballgrids.form.algebra import made_together, value_at
 from ballgrids.form.forms import form_with
 from ballgrids.form.matrices import need_size
 from ballgrids.form.needs import need_form
@@ -97,12 +96,10 @@ def critical_forms(size):
 def critical_index(form):
     """The index of the critical form to a multiple of which the form is alike, or None.
 
-    None of the critical forms has a common divisor; so the form without its own one is meant.
+    None of the critical forms has a common divisor. So the form without its own one is
+    alike to one of them, and their determinants are unlike.
     """
     if level_number(form) == 0:
         return None
-    table = divided(form.table, form.content)
-    for index, told in enumerate(critical_forms(form.size)):
-        if determinant_of(told.table) == determinant_of(table) and matrices_of_tables(table, told.table, 1):
-            return index
-    return None
+    determinants = [told.determinant for told in critical_forms(form.size)]
+    return determinants.index(form.cleared().determinant)
