@@ -6,8 +6,7 @@ that of bottom * P + top * H, t being top / bottom.
 
 from ballgrids.base.lines import adjugate, dot, multiplied, turned, unit_lines
 from ballgrids.base.numbers import divisor_of, ratio_of
-from ballgrids.form.algebra import (
-    divided, entries_of, led_by, made_together, scaled, table_sum, undone, value_at)
+from ballgrids.form.algebra import divided, entries_of, led_by, made_together, scaled, table_sum, undone, value_at
 from ballgrids.form.forms import has_positive_minors
 from ballgrids.short.reducing import reduced_lattice
 from ballgrids.short.search import least_rows_of

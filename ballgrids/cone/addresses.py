@@ -36,7 +36,12 @@ def is_address(form, value):
 
 def face_of(form):
     """The triple of the face rows, ascending, the scale, and the weights of these rows."""
-    copy, scale, weights = address(form)
+    return face_along(address(form))
+
+
+def face_along(found):
+    """The triple of `face_of` that an address tells."""
+    copy, scale, weights = found
     face = sorted([(ray, weight) for ray, weight in zip(copy.rays, weights) if weight > 0])
     return (tuple([ray for ray, weight in face]), scale, tuple([weight for ray, weight in face]))
 

@@ -4,11 +4,10 @@ A wall is told by the tuple of the indices of the rays that it leaves out: one r
 `A2`, `A3` and `A4`, and one of each frame of `D4`.
 """
 
-from ballgrids.base.lines import multiplied
+from ballgrids.base.lines import dot, multiplied
 from ballgrids.cone.told import copy_with
 from ballgrids.cone.ways import WAYS
-from ballgrids.form.algebra import (
-    led_by, made_together, moved_by, table_difference, table_sum, undone, value_at)
+from ballgrids.form.algebra import entries_of, led_by, moved_by, sum_of_tables, table_difference, undone, value_at
 
 # For each ray the table that makes, together with a table, twice its weight along the ray.
 # For `D4` these are the weights that are 0 along (0, 1, -1, -1) and (1, 0, -1, -1).
@@ -54,7 +53,8 @@ FRAME_PLACES = ((0, 1, 6, 11), (2, 5, 8, 9), (3, 4, 7, 10))
 
 def some_weights(name, table):
     """Integers along the rays of a told form by which a table is told."""
-    return tuple([made_together(told, table) // 2 for told in WEIGHT_TABLES[name]])
+    entries = entries_of(table)
+    return tuple([dot(entries_of(told), entries) // 2 for told in WEIGHT_TABLES[name]])
 
 
 def levelled(name, weights):
@@ -82,14 +82,6 @@ def walls_of(name):
 def height_above(weights, wall):
     """Half of what the wall table makes together with the table that has these weights."""
     return sum([weights[place] for place in wall])
-
-
-def sum_of_tables(tables):
-    """The sum of some tables."""
-    made = tables[0]
-    for table in tables[1:]:
-        made = table_sum(made, table)
-    return made
 
 
 def led_wall_tables(copy, walls):

@@ -68,15 +68,18 @@ def entries_of(table):
     return [entry for row in table for entry in row]
 
 
+def sum_of_tables(tables):
+    """The table of the sums of the numbers at equal places of some tables."""
+    return tuple([tuple([sum(numbers) for numbers in zip(*rows)]) for rows in zip(*tables)])
+
+
 def table_sum(one, other):
-    """The table of the sums of the numbers at equal places."""
-    return tuple([
-        tuple([first + second for first, second in zip(row, behind)]) for row, behind in zip(one, other)
-    ])
+    """The sum of two tables."""
+    return sum_of_tables((one, other))
 
 
 def table_difference(one, other):
-    """The table of the differences of the numbers at equal places."""
+    """The difference of two tables."""
     return table_sum(one, scaled(other, -1))
 
 

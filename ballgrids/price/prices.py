@@ -2,7 +2,7 @@
 
 from ballgrids.base.kinds import is_long_table
 from ballgrids.base.numbers import is_whole, ratio_of
-from ballgrids.cone.addresses import address, face_of
+from ballgrids.cone.addresses import address, face_along, face_of
 from ballgrids.cone.needs import need_copy
 from ballgrids.cone.walls import told_weights
 from ballgrids.errors import InvalidOperation
@@ -58,9 +58,9 @@ def least_price(form):
 
 def price_paper(form):
     """Any tuple of a price table, its bottom, and the parts of a writing, whose price and sum are equal."""
-    place = address(form)[0]
-    rows, scale, weights = face_of(form)
-    return (place.form.table, 2, rows, weights, scale)
+    found = address(form)
+    rows, scale, weights = face_along(found)
+    return (found[0].form.table, 2, rows, weights, scale)
 
 
 def is_price_paper(form, value):
