@@ -168,6 +168,11 @@ class Rises(unittest.TestCase):
         self.assertEqual((least_rows(Form.diagonal(1, 2)), least_rows(other)), (((1, 0),), ((0, 1), (1, -1))))
         self.assertLessEqual(product_sum(other.table, Form.diagonal(1, 2).adjoint.table), 3 * 2 * 2)
         self.assertFalse(is_rise(Form.diagonal(1, 2), other))
+        # Some of the rows of the first one, but not all.
+        part = Form(((2, -1, -1), (-1, 3, 0), (-1, 0, 2)))
+        self.assertEqual(least_rows(part), ((0, 0, 1), (1, 0, 0), (1, 0, 1)))
+        self.assertLessEqual(product_sum(part.table, Form.diagonal(1, 1, 2).adjoint.table), 2 * 3 * 2)
+        self.assertFalse(is_rise(Form.diagonal(1, 1, 2), part))
         # The rows of the second one and one more, but it does not lie on the side that rises.
         low = critical_like()
         self.assertEqual([row for row in least_rows(low[0]) if row not in least_rows(low[1])], [])

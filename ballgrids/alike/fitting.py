@@ -20,19 +20,12 @@ def block_ends(table):
     return list(zip(starts, starts[1:] + [size]))
 
 
-def block_columns(one, other, start, end, most=None):
-    """For each matrix of a block of letters the tuple of its columns.
-
-    Ahead of the block, fractions can be added to a column. So its letters are compared
-    by the shadows of both tables, in which nothing of the letters ahead is left.
-    """
-    first = leading_block(shadows_of(one)[start][1], end - start)
-    second = leading_block(shadows_of(other)[start][1], end - start)
-    return Block(first, second, most).found
-
-
 def columns_of_reduced(one, other, most=None):
-    """For each matrix between two reduced tables the tuple of its columns; at most so many."""
+    """For each matrix between two reduced tables the tuple of its columns; at most so many.
+
+    Ahead of a block, fractions can be added to a column. So its letters are compared by
+    the shadows of both tables, in which nothing of the letters ahead is left.
+    """
     for index in range(len(one)):
         if one[index][index] != other[index][index]:
             return []
@@ -40,12 +33,15 @@ def columns_of_reduced(one, other, most=None):
         return []
     blocks = block_ends(one)
     if len(blocks) == 1:
-        return block_columns(one, other, 0, len(one), most)
+        return Block(one, other, most).found
+    shadows, other_shadows = shadows_of(one), shadows_of(other)
     found = [()]
     for start, end in blocks:
         # Only if something fits ahead, the shadows of both tables have one scale.
         if found:
-            found = joined(one, other, start, found, block_columns(one, other, start, end))
+            first, second = shadows[start][1], other_shadows[start][1]
+            behind = Block(leading_block(first, end - start), leading_block(second, end - start)).found
+            found = joined(one, other, start, found, behind)
     return found[:most]
 
 
