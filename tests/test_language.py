@@ -109,6 +109,14 @@ class Files(unittest.TestCase):
                     self.assertEqual([type(target) for target in node.targets], [ast.Name])
 
 
+class Words(unittest.TestCase):
+    def test_words_that_stand_nowhere(self):
+        for path in TREES:
+            text = read(path)
+            for word in ("_wall", "_Wall", "_law_", "_lay_", "_stub_", "_enum_", "_record", "_outside", "_cold"):
+                self.assertNotIn(word, text, path)
+
+
 class Names(unittest.TestCase):
     def test_imports(self):
         for path, tree in TREES.items():

@@ -7,7 +7,7 @@ from ballgrids.cone.needs import need_copy
 from ballgrids.cone.told import FIRST, Copy, copy_with
 from ballgrids.cone.walking import way_to
 from ballgrids.cone.walls import (
-    copy_behind, height_above, led_wall_tables, told_weights, wall_between, walls_of, weights_in)
+    copy_behind, height_above, wall_tables_of, told_weights, wall_between, walls_of, weights_in)
 from ballgrids.errors import InvalidOperation
 from ballgrids.form.algebra import made_together, table_difference
 from ballgrids.form.needs import need_form, need_forms
@@ -85,7 +85,7 @@ def copies_beside(form, copy):
         raise InvalidOperation("the table must lie in the cone of the copy")
     weights = weights_in(copy, form.table)
     walls = [wall for wall in walls_of(copy.name) if height_above(weights, wall) == 0]
-    tables = led_wall_tables(copy, walls)
+    tables = wall_tables_of(copy, walls)
     return tuple([copy_behind(copy, wall) for table, wall in sorted(list(zip(tables, walls)))])
 
 

@@ -3,13 +3,13 @@
 from ballgrids.base.numbers import are_integers
 from ballgrids.cone.needs import need_copies, need_copy
 from ballgrids.cone.walls import (
-    copy_behind, height_above, led_wall_tables, told_weights, wall_between, wall_with, walls_of, weights_in)
+    copy_behind, height_above, wall_tables_of, told_weights, wall_between, wall_with, walls_of, weights_in)
 from ballgrids.errors import InvalidOperation
 from ballgrids.form.algebra import squares_sum
 from ballgrids.form.matrices import need_table
 
 
-def need_wall(copy, table):
+def wall_needed(copy, table):
     """The wall of a copy with this wall table; raises the error if there is none."""
     need_copy(copy)
     need_table(copy.size, table)
@@ -22,18 +22,18 @@ def need_wall(copy, table):
 def wall_tables(copy):
     """The ascending tuple of all wall tables."""
     need_copy(copy)
-    return tuple(sorted(led_wall_tables(copy, walls_of(copy.name))))
+    return tuple(sorted(wall_tables_of(copy, walls_of(copy.name))))
 
 
 def wall_rows(copy, table):
     """The ascending tuple of the rows of the wall with a wall table."""
-    wall = need_wall(copy, table)
+    wall = wall_needed(copy, table)
     return tuple(sorted([ray for place, ray in enumerate(copy.rays) if place not in wall]))
 
 
 def behind(copy, table):
     """The copy behind the wall with a wall table, by any of its matrices."""
-    return copy_behind(copy, need_wall(copy, table))
+    return copy_behind(copy, wall_needed(copy, table))
 
 
 def are_beside(one, other):
@@ -68,4 +68,4 @@ def crossed(copy, table):
     need_table(copy.size, table)
     weights = weights_in(copy, table)
     walls = [wall for wall in walls_of(copy.name) if height_above(weights, wall) < 0]
-    return tuple(sorted(led_wall_tables(copy, walls)))
+    return tuple(sorted(wall_tables_of(copy, walls)))

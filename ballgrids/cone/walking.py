@@ -7,7 +7,7 @@ from ballgrids.form.algebra import moved_by, undone
 from ballgrids.short.reducing import reduced_lattice
 
 
-def lowest_wall(name, weights):
+def wall_below(name, weights):
     """The wall whose table makes least together with the table that has these weights, if that is below 0."""
     height, wall = min([(height_above(weights, wall), wall) for wall in walls_of(name)])
     return wall if height < 0 else None
@@ -25,7 +25,7 @@ def way_to(table):
     name, told = FIRST[len(table)], reduced
     found = [(name, matrix)]
     while True:
-        wall = lowest_wall(name, some_weights(name, told))
+        wall = wall_below(name, some_weights(name, told))
         if wall is None:
             return found
         name, step = step_over(name, wall)

@@ -84,7 +84,7 @@ def height_above(weights, wall):
     return sum([weights[place] for place in wall])
 
 
-def led_wall_tables(copy, walls):
+def wall_tables_of(copy, walls):
     """The wall tables of some walls of a copy, in their order."""
     back = undone(copy.matrix)
     told = WEIGHT_TABLES[copy.name]
