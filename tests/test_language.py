@@ -256,6 +256,13 @@ class Interface(unittest.TestCase):
             "is_cheapest price_excess"),
         "ballgrids.bound.bounds": (
             "bound bound_paper is_bound_paper bound_by shortfall is_densest dual_product value_product"),
+        "ballgrids.face.classes": "face_marks keepers_by_mark face_with mass",
+        "ballgrids.face.faces": (
+            "is_face mark_of dimension_of face_table are_alike_faces face_matrix is_face_matrix face_keepers each_face"),
+        "ballgrids.word.galleries": (
+            "MOST_ENTRY is_step each_step gallery is_gallery steps_of gallery_along word_of is_word told_by_word distance"),
+        "ballgrids.cell.cells": (
+            "relevant_rows is_relevant count_sides obtuse_basis is_obtuse_basis obtuse_weights corners covering"),
     }
     CLASSES = {
         "Form": (
@@ -293,7 +300,15 @@ class Interface(unittest.TestCase):
             "is_price_table": "size table bottom", "price_of": "form table bottom", "is_writing": "form value",
             "sum_of_writing": "form writing", "is_price_paper": "form value", "price_at": "copy form",
             "is_cheapest": "copy form", "price_excess": "form table bottom writing", "is_bound_paper": "form value",
-            "bound_by": "form paper"}
+            "bound_by": "form paper", "face_marks": "size", "keepers_by_mark": "size", "face_with": "size mark",
+            "mass": "size", "is_face": "size value", "mark_of": "size rows", "dimension_of": "size rows",
+            "face_table": "size rows", "are_alike_faces": "size one other", "face_matrix": "size one other",
+            "is_face_matrix": "size one other value", "face_keepers": "size rows", "each_face": "copy many",
+            "is_step": "name other value", "each_step": "name", "gallery": "one other", "is_gallery": "value",
+            "steps_of": "copies", "gallery_along": "copy steps", "word_of": "size matrix", "is_word": "size matrix value",
+            "told_by_word": "size word", "distance": "one other", "relevant_rows": "form", "is_relevant": "form value",
+            "count_sides": "form", "obtuse_basis": "form", "is_obtuse_basis": "form value",
+            "obtuse_weights": "form basis", "corners": "form", "covering": "form"}
         for tree in TREES.values():
             for node in tree.body:
                 if isinstance(node, ast.FunctionDef) and node.name in told:

@@ -3,7 +3,7 @@
 from ballgrids.base.lines import cleared_line, dot, first_other_than_0, primitive, turned, without
 
 
-def steps_of(lines):
+def lead_steps(lines):
     """A pair of a column and a line for each step of the elimination.
 
     A line is 0 ahead of its column, and the columns ascend.
@@ -48,7 +48,7 @@ def solved_steps(steps, spare):
 def echelon_of(lines):
     """The echelon of the lines."""
     width = len(lines[0])
-    steps = steps_of(lines)
+    steps = lead_steps(lines)
     if not steps:
         return ()
     spare = spare_columns(steps, width)
@@ -68,7 +68,7 @@ def kernel_of(lines):
     its lead there, and 0 in the other spare columns.
     """
     width = len(lines[0])
-    steps = steps_of([line[::-1] for line in lines])
+    steps = lead_steps([line[::-1] for line in lines])
     spare = spare_columns(steps, width)
     solved = solved_steps(steps, spare) if steps else []
     scale = steps[-1][1][steps[-1][0]] if steps else 1

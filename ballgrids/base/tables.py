@@ -1,6 +1,6 @@
 """Lists of lines of integers [1.4], [1.5]."""
 
-from ballgrids.base.echelons import echelon_of, kernel_of, mix_of, steps_of
+from ballgrids.base.echelons import echelon_of, kernel_of, mix_of, lead_steps
 from ballgrids.base.lines import determinant_of, multiplied
 from ballgrids.base.numbers import are_integers
 from ballgrids.errors import InvalidOperation, InvalidRow, InvalidTable, TooMany
@@ -27,7 +27,7 @@ def need_list(value):
 def rank(lines):
     """The least number of lines of which all lines are mixes."""
     need_list(lines)
-    return len(steps_of(lines))
+    return len(lead_steps(lines))
 
 
 def echelon(lines):
@@ -67,6 +67,6 @@ def told_by(lines, line):
     width = len(lines[0])
     if not are_integers(line, width, width):
         raise InvalidRow("the line must be a tuple of as many integers as the width")
-    if len(steps_of(lines)) != len(lines):
+    if len(lead_steps(lines)) != len(lines):
         raise InvalidOperation("the lines must be free")
     return mix_of(lines, line)

@@ -3,7 +3,7 @@
 A face is kept as the pairs of its rows and their weights.
 """
 
-from ballgrids.base.echelons import steps_of
+from ballgrids.base.echelons import lead_steps
 from ballgrids.base.lines import adjugate, determinant_of, multiplied, turned
 from ballgrids.form.algebra import divided, image, made_normal, pairing_of, squares_sum
 
@@ -13,7 +13,7 @@ def independent_pairs(face):
     found = []
     for row, weight in face:
         rows = [told for told, _ in found] + [row]
-        if len(steps_of(rows)) == len(rows):
+        if len(lead_steps(rows)) == len(rows):
             found.append((row, weight))
     return found
 

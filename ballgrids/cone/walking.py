@@ -13,16 +13,11 @@ def wall_below(name, weights):
     return wall if height < 0 else None
 
 
-def way_to(table):
-    """The pairs of a name and a matrix of the copies on a way to a cone in which the table lies.
+def way_from(name, matrix, told):
+    """The pairs of a name and a matrix of the copies on a way from a copy to a cone in which a table lies.
 
-    The way begins with the first told form in letters in which the table is reduced: so
-    it is short. The table is always told in the letters of the copy that is reached.
+    The table is always told in the letters of the copy that is reached.
     """
-    reduced, basis = reduced_lattice(table)
-    # Of a table Q led by M the rays belong to those of Q, led by the inverse of M turned around.
-    matrix = turned(undone(turned(basis)))
-    name, told = FIRST[len(table)], reduced
     found = [(name, matrix)]
     while True:
         wall = wall_below(name, some_weights(name, told))
@@ -31,3 +26,14 @@ def way_to(table):
         name, step = step_over(name, wall)
         told, matrix = moved_by(told, undone(step)), multiplied(matrix, step)
         found.append((name, matrix))
+
+
+def way_to(table):
+    """The pairs of a name and a matrix of the copies on a way to a cone in which the table lies.
+
+    The way begins with the first told form in letters in which the table is reduced: so
+    it is short.
+    """
+    reduced, basis = reduced_lattice(table)
+    # Of a table Q led by M the rays belong to those of Q, led by the inverse of M turned around.
+    return way_from(FIRST[len(table)], turned(undone(turned(basis))), reduced)

@@ -5,7 +5,7 @@ A wall is told by the tuple of the indices of the rays that it leaves out: one r
 """
 
 from ballgrids.base.lines import dot, multiplied
-from ballgrids.cone.told import copy_with
+from ballgrids.cone.told import RAYS, TABLES, copy_with
 from ballgrids.cone.ways import WAYS
 from ballgrids.form.algebra import entries_of, led_by, moved_by, sum_of_tables, table_difference, undone, value_at
 
@@ -113,26 +113,38 @@ def wall_without(name, places):
     return tuple([part[0] for part in parts])
 
 
-def wall_with(copy, table, height=2):
-    """The wall of a copy that leaves out the rays at which a table has this value, or None.
+def wall_left_out(name, rays, table, height):
+    """The wall of a cone that leaves out the rays at which a table has this value, or None.
 
     At all other rays the table must be 0. The values at the rays tell a table. So it is
     the wall table, or a multiple of it.
     """
-    values = [value_at(table, ray) for ray in copy.rays]
+    values = [value_at(table, ray) for ray in rays]
     if any([value not in (0, height) for value in values]):
         return None
-    return wall_without(copy.name, tuple([place for place, value in enumerate(values) if value == height]))
+    return wall_without(name, tuple([place for place, value in enumerate(values) if value == height]))
+
+
+def wall_with(copy, table):
+    """The wall of a copy with a wall table, or None if the table is none."""
+    return wall_left_out(copy.name, copy.rays, table, 2)
+
+
+def height_behind(name):
+    """The value of the form behind a wall, less that of the copy, at the rays that the wall leaves out [9.3]."""
+    return 4 if name == "A2" else 2
 
 
 def wall_between(one, other):
-    """The wall of the first copy behind which the other one lies, or None.
-
-    The wall table, taken twice for a copy of A2, tells the form behind the wall [9.3],
-    and this tells the copy.
-    """
+    """The wall of the first copy behind which the other one lies, or None; its form tells the copy."""
     table = table_difference(other.form.table, one.form.table)
-    return wall_with(one, table, 4 if one.name == "A2" else 2)
+    return wall_left_out(one.name, one.rays, table, height_behind(one.name))
+
+
+def wall_before(name, other, matrix):
+    """The wall of a told cone behind which the copy of another told form by a matrix lies, or None."""
+    table = table_difference(led_by(TABLES[other], undone(matrix)), TABLES[name])
+    return wall_left_out(name, RAYS[name], table, height_behind(name))
 
 
 def step_over(name, wall):

@@ -1,6 +1,6 @@
 """Tables as lines of their upper numbers [7.1]; nothing is checked here."""
 
-from ballgrids.base.echelons import kernel_of, steps_of
+from ballgrids.base.echelons import kernel_of, lead_steps
 
 
 def upper_places(size):
@@ -40,7 +40,7 @@ def table_of_uppers(size, numbers):
 
 def rank_of_squares_of(rows):
     """The rank of some rows."""
-    return len(steps_of([square_uppers(row) for row in rows]))
+    return len(lead_steps([square_uppers(row) for row in rows]))
 
 
 def zero_tables(rows):

@@ -1,0 +1,1 @@
+"""Cells of forms."""

@@ -1,0 +1,1 @@
+"""Faces of cones and their symmetries."""

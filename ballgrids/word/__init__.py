@@ -1,0 +1,1 @@
+"""Galleries of copies, and words of matrices."""
