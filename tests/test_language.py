@@ -15,14 +15,14 @@ LIBRARY = {"math": ("gcd", "lcm", "isqrt", "comb", "perm", "factorial")}
 CALLED = (
     "len range enumerate zip min max sum abs sorted reversed int str bool list tuple dict isinstance any all divmod "
     "TypeError iter").split()
-METHODS = "append get items join keys values zfill copy index count bit_length".split()
+METHODS = "append get items join keys values zfill copy index count bit_length split startswith isdigit isalnum".split()
 BARRED = (
     "mro elements open input law version_info with_traceback add_note register attrgetter breakpoint builtins compile "
     "copyright credits delattr dir eval exec exit gc getattr globals hasattr help id importlib license locals "
     "methodcaller os quit setattr super vars sys type typing enum Enum Flag Generic Protocol ABC namedtuple "
     "NamedTuple").split()
 NO_NODES = (
-    ast.Try, ast.Global, ast.Nonlocal, ast.AsyncFunctionDef, ast.AsyncFor, ast.AsyncWith, ast.Await, ast.Lambda, ast.Set,
+    ast.Global, ast.Nonlocal, ast.AsyncFunctionDef, ast.AsyncFor, ast.AsyncWith, ast.Await, ast.Lambda, ast.Set,
     ast.SetComp, ast.GeneratorExp, ast.NamedExpr, ast.With, ast.Delete, ast.Assert, ast.Div, ast.MatMult,
     ast.AnnAssign, ast.YieldFrom, ast.Match)
 
@@ -263,6 +263,12 @@ class Interface(unittest.TestCase):
             "MOST_ENTRY is_step each_step gallery is_gallery steps_of gallery_along word_of is_word told_by_word distance"),
         "ballgrids.cell.cells": (
             "relevant_rows is_relevant count_sides obtuse_basis is_obtuse_basis obtuse_weights corners covering"),
+        "ballgrids.count.counts": (
+            "COUNTED MAX_COUNTED counted_form count_by_divisors each_count count_in count_about each_above"),
+        "ballgrids.desk.promises": "is_promise does_hold paper_against is_paper_against",
+        "ballgrids.desk.desks": "MAX_PROMISES MAX_DEEDS MAX_INDEX Desk Batch",
+        "ballgrids.text.formats": "write_form read_form write_matrix read_matrix write_address read_address",
+        "ballgrids.text.shell": "MAX_LINE MAX_LINES Shell",
     }
     CLASSES = {
         "Form": (
@@ -270,7 +276,13 @@ class Interface(unittest.TestCase):
             "__eq__ __len__ __str__"),
         "Copy": (
             "__init__ first name matrix size rays rows form led __eq__ __contains__ __len__ __iter__ __str__"),
+        "Desk": (
+            "__init__ form promises version do would promise drop undo at batch __eq__ __len__ __iter__ __contains__ __str__"),
+        "Batch": "__init__ form is_open put end drop __enter__ __exit__",
+        "Shell": "__init__ form promises version say run __len__ __str__",
     }
+    # What further methods a class has for other files of the package, or for its own methods.
+    INNER = {"Batch": "need_going", "Desk": "need_free change settle", "Shell": "answer obey act gather"}
 
     def test_names(self):
         for module, names in self.LISTED.items():
@@ -280,7 +292,7 @@ class Interface(unittest.TestCase):
         defined = {node.name: node for tree in TREES.values() for node in tree.body if isinstance(node, ast.ClassDef)}
         for name, methods in self.CLASSES.items():
             own = {node.name for node in defined[name].body if isinstance(node, ast.FunctionDef)}
-            self.assertEqual(sorted(own), sorted(methods.split()))
+            self.assertEqual(sorted(own), sorted(methods.split() + self.INNER.get(name, "").split()))
 
     def test_arguments(self):
         told = {
@@ -308,11 +320,28 @@ class Interface(unittest.TestCase):
             "steps_of": "copies", "gallery_along": "copy steps", "word_of": "size matrix", "is_word": "size matrix value",
             "told_by_word": "size word", "distance": "one other", "relevant_rows": "form", "is_relevant": "form value",
             "count_sides": "form", "obtuse_basis": "form", "is_obtuse_basis": "form value",
-            "obtuse_weights": "form basis", "corners": "form", "covering": "form"}
+            "obtuse_weights": "form basis", "corners": "form", "covering": "form", "counted_form": "name",
+            "count_by_divisors": "name number", "each_count": "name", "count_in": "size lower upper",
+            "count_about": "size lower upper", "each_above": "size lower", "is_promise": "size value",
+            "does_hold": "form promise", "paper_against": "form promise", "is_paper_against": "form promise value",
+            "write_form": "form", "read_form": "text", "write_matrix": "matrix", "read_matrix": "text",
+            "write_address": "address", "read_address": "text"}
         for tree in TREES.values():
             for node in tree.body:
                 if isinstance(node, ast.FunctionDef) and node.name in told:
                     self.assertEqual([name.arg for name in node.args.args], told[node.name].split())
+
+
+    def test_arguments_of_methods(self):
+        told = {
+            "do": "deeds", "would": "deeds", "promise": "promise", "undo": "count", "at": "version", "batch": "", "put": "deed",
+            "end": "", "say": "command", "run": "commands", "value": "row", "pairing": "one other", "led": "matrix"}
+        for tree in TREES.values():
+            for node in tree.body:
+                if isinstance(node, ast.ClassDef) and node.name in self.CLASSES:
+                    for method in node.body:
+                        if isinstance(method, ast.FunctionDef) and method.name in told:
+                            self.assertEqual([name.arg for name in method.args.args][1:], told[method.name].split())
 
 
 class Attributes(unittest.TestCase):

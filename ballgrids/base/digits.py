@@ -21,6 +21,6 @@ def written(number):
     return f"{sign}{digits}"
 
 
-def written_square(square):
-    """The integers of a square, row by row."""
-    return "/".join([" ".join([written(number) for number in row]) for row in square])
+def written_square(square, between=" "):
+    """The integers of a square, row by row, with a sign between two of them."""
+    return "/".join([between.join([written(number) for number in row]) for row in square])

@@ -1,0 +1,1 @@
+"""Counts of rows and of faces."""

@@ -1,0 +1,1 @@
+"""Promises about forms, and desks that keep them."""

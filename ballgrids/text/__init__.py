@@ -1,0 +1,1 @@
+"""Texts, and a shell of commands."""
