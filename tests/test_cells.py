@@ -404,7 +404,7 @@ class Errors(unittest.TestCase):
                       (4 * 10 ** 14 + 1, 10 ** 30, 3 * 10 ** 14, 10 ** 29 + 9), (10 ** 14 + 3, 3 * 10 ** 14, 10 ** 45, 4 * 10 ** 44 + 1),
                       (7, 10 ** 29 + 9, 4 * 10 ** 44 + 1, 10 ** 59)))):
             for other in (form, form.led(far_matrix(chance, 4, 57))):
-                self.assertLess(calls_of(relevant_rows, other), 12000)
+                self.assertLess(calls_of(relevant_rows, other), 6000)
 
 
 class Untrue(unittest.TestCase):

@@ -446,9 +446,9 @@ class Speed(unittest.TestCase):
         face = led_face(far_matrix(chance, 4, 57), face_with(4, (12, 312)))
         small = led_face(far_matrix(chance, 4, 57), face_with(4, (4, 1)))
         for call, arguments, most in (
-                (face_keepers, (4, face), 90000), (face_matrix, (4, face, face_with(4, (12, 312))), 30000),
-                (is_face, (4, small), 9000), (face_keepers, (4, small), 90000),
-                (lambda: list(each_face(told("D4"), 6)), (), 40000)):
+                (face_keepers, (4, face), 30000), (face_matrix, (4, face, face_with(4, (12, 312))), 5000),
+                (is_face, (4, small), 1500), (face_keepers, (4, small), 15000),
+                (lambda: list(each_face(told("D4"), 6)), (), 15000)):
             self.assertLess(calls_of(call, *arguments), most)
 
 

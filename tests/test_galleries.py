@@ -530,9 +530,9 @@ class Speed(unittest.TestCase):
             if det(matrix) in (1, -1):
                 size = len(matrix)
                 word = word_of(size, matrix)
-                self.assertLess(calls_of(word_of, size, matrix), 1500 * len(word) + 4000)
-                self.assertLess(calls_of(gallery, Copy.first(size), Copy(FIRST[size], matrix)), 1500 * len(word) + 4000)
-                self.assertLess(calls_of(is_word, size, matrix, word), 1500 * len(word) + 4000)
+                self.assertLess(calls_of(word_of, size, matrix), 100 * len(word))
+                self.assertLess(calls_of(gallery, Copy.first(size), Copy(FIRST[size], matrix)), 300 * len(word))
+                self.assertLess(calls_of(is_word, size, matrix, word), 150 * len(word))
         self.assertLess(calls_of(distance, Copy.first(2), Copy("A2", ((1, MOST), (0, 1)))), 1000)
         self.assertEqual(Form(PLANE.table), PLANE)
 

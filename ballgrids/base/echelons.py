@@ -1,6 +1,25 @@
 """Echelons of lines of integers of any length; nothing is checked here."""
 
-from ballgrids.base.lines import cleared_line, dot, first_other_than_0, primitive, turned, without
+from ballgrids.base.lines import first_other_than_0, primitive, turned
+
+
+def cleared_lines(lines, leads, index, scale):
+    """The other lines, from which the one with the index is taken, so that their leads become 0.
+
+    With the lead of the step ahead as scale all numbers stay minors of the first lines
+    (Bareiss), so that the division leaves no remainder.
+    """
+    pivot, ahead = lines[index], leads[index]
+    found = []
+    for at, (line, lead) in enumerate(zip(lines, leads)):
+        if at == index:
+            continue
+        if lead != 0:
+            line = [(ahead * number - lead * other) // scale for number, other in zip(line, pivot)]
+        elif ahead != scale:
+            line = [ahead * number // scale for number in line]
+        found.append(line)
+    return found
 
 
 def lead_steps(lines):
@@ -8,40 +27,48 @@ def lead_steps(lines):
 
     A line is 0 ahead of its column, and the columns ascend.
     """
-    rest, found, scale = list(lines), [], 1
+    rest, found, scale = lines, [], 1
     for column in range(len(lines[0])):
-        index = first_other_than_0([line[column] for line in rest])
-        if index is None:
-            continue
-        pivot = rest[index]
-        rest = [cleared_line(pivot, line, column, scale) for line in without(rest, index)]
-        scale = pivot[column]
-        found.append((column, pivot))
+        leads = [line[column] for line in rest]
+        index = first_other_than_0(leads)
+        if index is not None:
+            found.append((column, rest[index]))
+            rest = cleared_lines(rest, leads, index, scale)
+            scale = leads[index]
     return found
+
+
+def last_lead(steps):
+    """The lead of the last step: the determinant of the columns of the leads; 1 if there is no step."""
+    if not steps:
+        return 1
+    column, line = steps[-1]
+    return line[column]
 
 
 def spare_columns(steps, width):
     """The columns in which no step has its lead."""
-    leads = [column for column, line in steps]
+    leads = {column: True for column, line in steps}
     return [column for column in range(width) if column not in leads]
 
 
 def solved_steps(steps, spare):
-    """For each step its numbers in the spare columns, if each lead is the last one's.
+    """For each step, the last one first, its column and its numbers in the spare columns, if all leads are equal.
 
-    All other numbers in the columns of the leads are 0 then. The last lead is the
-    determinant of the columns of the leads, so that the divisions leave no remainder.
+    They are the last one's then, and all other numbers in the columns of the leads are 0. As
+    the last lead is the determinant of these columns, the divisions leave no remainder.
     """
-    scale = steps[-1][1][steps[-1][0]]
+    scale = last_lead(steps)
     solved = []
     for index in range(len(steps) - 1, -1, -1):
         column, line = steps[index]
-        factors = [line[lead] for lead, other in steps[index + 1:]]
-        behind = [
-            (scale * line[place] - dot(factors, [numbers[at] for numbers in solved])) // line[column]
-            for at, place in enumerate(spare)
-        ]
-        solved = [behind] + solved
+        numbers = [scale * line[place] for place in spare]
+        for further, told in solved:
+            factor = line[further]
+            if factor != 0:
+                numbers = [number - factor * other for number, other in zip(numbers, told)]
+        lead = line[column]
+        solved.append((column, [number // lead for number in numbers]))
     return solved
 
 
@@ -49,16 +76,32 @@ def echelon_of(lines):
     """The echelon of the lines."""
     width = len(lines[0])
     steps = lead_steps(lines)
-    if not steps:
-        return ()
     spare = spare_columns(steps, width)
-    scale = steps[-1][1][steps[-1][0]]
+    scale = last_lead(steps)
     made = []
-    for step, numbers in zip(steps, solved_steps(steps, spare)):
-        entries = dict(zip(spare, numbers))
-        entries[step[0]] = scale
-        made.append(primitive([entries.get(column, 0) for column in range(width)]))
-    return tuple(made)
+    for column, numbers in solved_steps(steps, spare):
+        line = [0] * width
+        line[column] = scale
+        for place, number in zip(spare, numbers):
+            line[place] = number
+        made.append(primitive(line))
+    return tuple(made[::-1])
+
+
+def kernel_lines(steps, spare, width):
+    """For each spare column of some steps the line that makes 0 with all of them, and has 0 in the other spare ones.
+
+    The steps are those of lines that were turned around; so is what is made here.
+    """
+    scale, solved = last_lead(steps), solved_steps(steps, spare)
+    made = []
+    for at, place in enumerate(spare):
+        line = [0] * width
+        line[place] = scale
+        for column, numbers in solved:
+            line[column] = -numbers[at]
+        made.append(primitive(line[::-1]))
+    return made
 
 
 def kernel_of(lines):
@@ -69,26 +112,36 @@ def kernel_of(lines):
     """
     width = len(lines[0])
     steps = lead_steps([line[::-1] for line in lines])
-    spare = spare_columns(steps, width)
-    solved = solved_steps(steps, spare) if steps else []
-    scale = steps[-1][1][steps[-1][0]] if steps else 1
-    made = []
-    for at, place in enumerate(spare):
-        entries = {step[0]: -numbers[at] for step, numbers in zip(steps, solved)}
-        entries[place] = scale
-        made.append(primitive([entries.get(column, 0) for column in range(width)][::-1]))
-    return tuple(made[::-1])
+    return tuple(kernel_lines(steps, spare_columns(steps, width), width)[::-1])
+
+
+def last_of_kernel(lines):
+    """The last line of the kernel, or None if there is none.
+
+    Only the steps up to the first spare column are made.
+    """
+    width = len(lines[0])
+    rest, steps, scale = [line[::-1] for line in lines], [], 1
+    for column in range(width):
+        leads = [line[column] for line in rest]
+        index = first_other_than_0(leads)
+        if index is None:
+            return kernel_lines(steps, [column], width)[0]
+        steps.append((column, rest[index]))
+        rest = cleared_lines(rest, leads, index, scale)
+        scale = leads[index]
+    return None
 
 
 def mix_of(lines, line):
     """The pair of a scale and of factors by which free lines tell a line, or None.
 
-    What makes 0 of the columns of all of them together tells each mix that the line is.
+    The factors solve as many equations as the line has numbers.
     """
-    mixes = kernel_of(turned(lines + (line,)))
-    if not mixes:
+    many = len(lines)
+    steps = lead_steps(turned(lines + (line,)))
+    if steps[-1][0] == many:
         return None
-    factors, scale = mixes[0][:-1], mixes[0][-1]
-    if scale > 0:
-        return (scale, tuple([-factor for factor in factors]))
-    return (-scale, factors)
+    factors = [numbers[0] for column, numbers in solved_steps(steps, [many])][::-1]
+    made = primitive([last_lead(steps)] + factors)
+    return (made[0], made[1:])

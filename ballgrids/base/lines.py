@@ -2,6 +2,12 @@
 
 from ballgrids.base.numbers import divisor_of
 
+UNITS = {
+    2: ((1, 0), (0, 1)),
+    3: ((1, 0, 0), (0, 1, 0), (0, 0, 1)),
+    4: ((1, 0, 0, 0), (0, 1, 0, 0), (0, 0, 1, 0), (0, 0, 0, 1)),
+}
+
 
 def dot(one, other):
     """The sum of the products of the numbers at equal indices."""
@@ -16,12 +22,23 @@ def turned(lines):
 def multiplied(one, other):
     """The product of two lists of lines as matrices."""
     columns = turned(other)
+    if len(other) == 4:
+        return tuple([
+            tuple([first * p + second * q + third * r + last * s for p, q, r, s in columns])
+            for first, second, third, last in one
+        ])
+    if len(other) == 3:
+        return tuple([
+            tuple([first * p + second * q + last * r for p, q, r in columns]) for first, second, last in one
+        ])
+    if len(other) == 2:
+        return tuple([tuple([first * p + last * q for p, q in columns]) for first, last in one])
     return tuple([tuple([dot(line, column) for column in columns]) for line in one])
 
 
 def unit_lines(size):
-    """The lines with 1 on the diagonal and 0 elsewhere."""
-    return tuple([tuple([int(row == column) for column in range(size)]) for row in range(size)])
+    """The lines with 1 on the diagonal and 0 elsewhere, of the size 2, 3 or 4."""
+    return UNITS[size]
 
 
 def first_other_than_0(numbers):
@@ -42,7 +59,7 @@ def primitive(line):
     divisor = divisor_of(line)
     if line[first_other_than_0(line)] < 0:
         divisor = -divisor
-    return tuple([number // divisor for number in line])
+    return tuple(line) if divisor == 1 else tuple([number // divisor for number in line])
 
 
 def cleared_line(pivot, line, column, scale):
@@ -73,15 +90,9 @@ def determinant_of_three(lines):
 
 def determinant_of_four(lines):
     """The determinant of four lines, by pairs of columns of the first two and of the last two lines."""
-    one, two, three, four = lines
-    return (
-        (one[0] * two[1] - one[1] * two[0]) * (three[2] * four[3] - three[3] * four[2])
-        - (one[0] * two[2] - one[2] * two[0]) * (three[1] * four[3] - three[3] * four[1])
-        + (one[0] * two[3] - one[3] * two[0]) * (three[1] * four[2] - three[2] * four[1])
-        + (one[1] * two[2] - one[2] * two[1]) * (three[0] * four[3] - three[3] * four[0])
-        - (one[1] * two[3] - one[3] * two[1]) * (three[0] * four[2] - three[2] * four[0])
-        + (one[2] * two[3] - one[3] * two[2]) * (three[0] * four[1] - three[1] * four[0])
-    )
+    ab, ac, ad, bc, bd, cd = pair_minors(lines[0], lines[1])
+    ij, ik, il, jk, jl, kl = pair_minors(lines[2], lines[3])
+    return ab * kl - ac * jl + ad * jk + bc * il - bd * ik + cd * ij
 
 
 def determinant_of(lines):
@@ -116,15 +127,44 @@ def leading_block(lines, many):
     return tuple([tuple(line[:many]) for line in lines[:many]])
 
 
-def minor(lines, row, column):
-    """The determinant of the lines without a row and a column."""
-    return determinant_of([without(line, column) for line in without(lines, row)])
-
-
 def adjugate(lines):
-    """The square that makes, as a product with these lines, the determinant on the diagonal."""
+    """The square that makes, as a product with up to four lines, the determinant on the diagonal."""
     size = len(lines)
-    return tuple([
-        tuple([(-1 if (row + column) & 1 else 1) * minor(lines, column, row) for column in range(size)])
-        for row in range(size)
-    ])
+    if size == 4:
+        return adjugate_of_four(lines)
+    if size == 3:
+        return adjugate_of_three(lines)
+    if size == 2:
+        (first, second), (third, fourth) = lines
+        return ((fourth, -second), (-third, first))
+    return ((1,),) if size == 1 else ()
+
+
+def adjugate_of_three(lines):
+    """The adjugate of three lines."""
+    (a, b, c), (d, e, f), (g, h, i) = lines
+    return (
+        (e * i - f * h, c * h - b * i, b * f - c * e),
+        (f * g - d * i, a * i - c * g, c * d - a * f),
+        (d * h - e * g, b * g - a * h, a * e - b * d),
+    )
+
+
+def pair_minors(one, other):
+    """The determinants of each two columns of two lines of four numbers, the first columns first."""
+    a, b, c, d = one
+    e, f, g, h = other
+    return (a * f - b * e, a * g - c * e, a * h - d * e, b * g - c * f, b * h - d * f, c * h - d * g)
+
+
+def adjugate_of_four(lines):
+    """The adjugate of four lines, by pairs of columns of the first two and of the last two lines."""
+    (a, b, c, d), (e, f, g, h), (i, j, k, l), (m, n, o, p) = lines
+    ab, ac, ad, bc, bd, cd = pair_minors(lines[0], lines[1])
+    ij, ik, il, jk, jl, kl = pair_minors(lines[2], lines[3])
+    return (
+        (f * kl - g * jl + h * jk, c * jl - b * kl - d * jk, n * cd - o * bd + p * bc, k * bd - j * cd - l * bc),
+        (g * il - e * kl - h * ik, a * kl - c * il + d * ik, o * ad - m * cd - p * ac, i * cd - k * ad + l * ac),
+        (e * jl - f * il + h * ij, b * il - a * jl - d * ij, m * bd - n * ad + p * ab, j * ad - i * bd - l * ab),
+        (f * ik - e * jk - g * ij, a * jk - b * ik + c * ij, n * ac - m * bc - o * ab, i * bc - j * ac + k * ab),
+    )

@@ -22,7 +22,9 @@ def are_integers(value, least, most):
     """Whether the value is a tuple of so many integers of at most sixty digits."""
     if not isinstance(value, tuple) or not least <= len(value) <= most:
         return False
-    return all([is_integer(number) for number in value])
+    return all([
+        isinstance(number, int) and not isinstance(number, bool) and -TOO_LONG < number < TOO_LONG for number in value
+    ])
 
 
 def is_ratio(value):
@@ -37,6 +39,8 @@ def divisor_of(numbers):
     found = 0
     for number in numbers:
         found = gcd(found, number)
+        if found == 1:
+            return 1
     return found
 
 

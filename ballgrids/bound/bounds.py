@@ -1,14 +1,16 @@
 """Bounds of densities by told forms [13.1] to [13.5]."""
 
-from ballgrids.base.lines import determinant_of
+from ballgrids.base.lines import adjugate, determinant_of, multiplied
 from ballgrids.base.numbers import power, ratio_of
-from ballgrids.cone.addresses import address, copies_beside, is_address
-from ballgrids.cone.told import TABLES
-from ballgrids.cone.walls import told_weights
+from ballgrids.cone.addresses import is_address
+from ballgrids.cone.told import TABLES, copy_with
+from ballgrids.cone.walking import place_of
+from ballgrids.cone.walls import step_over, told_weights, wall_tables_of
+from ballgrids.cone.weighing import FRAME_PLACES
 from ballgrids.errors import InvalidOperation
 from ballgrids.form.needs import need_form
-from ballgrids.price.prices import least_price
 from ballgrids.short.bases import successive_values
+from ballgrids.short.reducing import reduced_lattice
 from ballgrids.short.rows import density, least_value
 
 # The greatest density of each size.
@@ -21,26 +23,38 @@ def told_density(name):
     return ratio_of(power(2, len(table)), determinant_of(table))
 
 
-def bound(form):
-    """The least density of a told form in the cone of a copy of which the adjoint lies."""
-    return told_density(bound_paper(form)[0].name)
-
-
-def bound_paper(form):
-    """Any bound paper whose told form has the bound as its density.
+def last_step(name, matrix, weights):
+    """The wall behind which there is a copy of A4 in whose cone a table lies, too, or None; the weights are level.
 
     If the adjoint lies in the cone of a copy of D4, and in one of a copy of A4, it lies on
     a wall behind which there is a copy of A4 [13.2].
     """
+    if name != "D4" or min(weights) > 0:
+        return None
+    zeros = [[place for place in frame if weights[place] == 0] for frame in FRAME_PLACES]
+    walls = [(one, two, three) for one in zeros[0] for two in zeros[1] for three in zeros[2]]
+    walls = [wall for wall in walls if step_over(name, wall)[0] == "A4"]
+    return min(list(zip(wall_tables_of(name, matrix, walls), walls)))[1] if walls else None
+
+
+def bound(form):
+    """The least density of a told form in the cone of a copy of which the adjoint lies."""
     need_form(form)
-    back = form.adjoint
-    place = address(back)
-    if place[0].name != "D4":
-        return place
-    for copy in copies_beside(back, place[0]):
-        if copy.name == "A4":
-            return (copy,) + told_weights(copy, back.table)
-    return place
+    name, matrix, _, weights = place_of(adjugate(form.table))
+    return told_density(name if last_step(name, matrix, weights) is None else "A4")
+
+
+def bound_paper(form):
+    """Any bound paper whose told form has the bound as its density."""
+    need_form(form)
+    table = adjugate(form.table)
+    name, matrix, scale, weights = place_of(table)
+    wall = last_step(name, matrix, weights)
+    if wall is None:
+        return (copy_with(name, matrix), scale, weights)
+    name, step = step_over(name, wall)
+    copy = copy_with(name, multiplied(matrix, step))
+    return (copy,) + told_weights(copy, table)
 
 
 def is_bound_paper(form, value):
@@ -59,8 +73,10 @@ def bound_by(form, paper):
 def shortfall(form):
     """By what n D exceeds the product of the least value and the least price of the adjoint, a ratio."""
     need_form(form)
-    top, bottom = least_price(form.adjoint)
-    return ratio_of(form.size * form.determinant * bottom - least_value(form) * top, bottom)
+    table = form.table
+    _, _, scale, weights = place_of(adjugate(table))
+    least = reduced_lattice(table)[0][0][0]
+    return ratio_of(len(table) * determinant_of(table) * scale - least * sum(weights), scale)
 
 
 def is_densest(form):

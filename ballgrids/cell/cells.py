@@ -3,7 +3,7 @@
 from ballgrids.base.kinds import is_long_row
 from ballgrids.base.numbers import ratio_of
 from ballgrids.cell.cosets import is_relevant_row, relevant_of
-from ballgrids.cell.obtuse import are_obtuse, corners_of, greatest_value, obtuse_rows, weights_along
+from ballgrids.cell.obtuse import are_obtuse, corners_of, greatest_value, obtuse_rows, weights_between
 from ballgrids.errors import InvalidOperation, InvalidRows
 from ballgrids.form.needs import need_form
 
@@ -49,7 +49,7 @@ def obtuse_weights(form, basis):
     need_few_letters(form)
     if not are_obtuse(form.table, basis):
         raise InvalidRows("the rows must be an obtuse basis of the form")
-    return weights_along(form.table, basis)
+    return weights_between(form.table, basis)
 
 
 def corners(form):

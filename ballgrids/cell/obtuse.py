@@ -20,7 +20,7 @@ def row_sum(rows):
     return tuple([sum(numbers) for numbers in zip(*rows)])
 
 
-def weights_along(table, rows):
+def weights_between(table, rows):
     """The dict from the pairs of places to the opposites of the pairings of the rows at them."""
     images = [image(table, row) for row in rows]
     places = range(len(rows))
@@ -47,7 +47,7 @@ def obtuse_rows(table):
     rows = list(unit_lines(len(table)))
     rows.append(tuple([-number for number in row_sum(rows)]))
     while True:
-        weights = weights_along(lattice, rows)
+        weights = weights_between(lattice, rows)
         acute = [pair for pair in weights if weights[pair] < 0]
         if not acute:
             columns = turned(basis)
@@ -62,7 +62,7 @@ def are_obtuse(table, value):
         return False
     if not is_long_matrix(size, value[:-1]) or any([number != 0 for number in row_sum(value)]):
         return False
-    return min(list(weights_along(table, value).values())) >= 0
+    return min(list(weights_between(table, value).values())) >= 0
 
 
 def sides_along(weights, order):
@@ -108,7 +108,7 @@ def lowered(row, bottom):
 def corners_of(table, determinant):
     """The ascending list of the corners of the cell."""
     rows = obtuse_rows(table)
-    weights = weights_along(table, rows)
+    weights = weights_between(table, rows)
     size = len(table)
     matrix = multiplied(turned(rows[:size]), adjugate(pairings_along(weights, size)))
     points = [image(matrix, sides) for sides in all_sides(weights, size)]
@@ -118,7 +118,7 @@ def corners_of(table, determinant):
 
 def greatest_value(table):
     """The greatest value at a corner, multiplied by four times the determinant."""
-    weights = weights_along(table, obtuse_rows(table))
+    weights = weights_between(table, obtuse_rows(table))
     size = len(table)
     back = adjugate(pairings_along(weights, size))
     return max([pairing_of(back, sides, sides) for sides in all_sides(weights, size)])

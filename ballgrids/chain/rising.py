@@ -4,23 +4,28 @@ A table P is kept at a ratio t, in the place of the table P + t H, as a table of
 that of bottom * P + top * H, t being top / bottom.
 """
 
-from ballgrids.base.lines import adjugate, dot, multiplied, turned, unit_lines
+from ballgrids.base.lines import adjugate, multiplied, turned, unit_lines
 from ballgrids.base.numbers import divisor_of, ratio_of
-from ballgrids.form.algebra import divided, entries_of, led_by, made_together, scaled, table_sum, undone, value_at
-from ballgrids.form.forms import has_positive_minors
+from ballgrids.form.algebra import (
+    divided, entries_of, image, is_positive_table, led_by, made_normal, made_together, opposite_table, undone, value_at)
+from ballgrids.short.least import least_of_reduced
 from ballgrids.short.reducing import reduced_lattice
-from ballgrids.short.search import least_rows_of
-from ballgrids.span.uppers import zero_tables
+from ballgrids.short.signs import sign_values
+from ballgrids.span.uppers import count_of_uppers, last_zero_table
 
 
 def raised(table, height, ratio):
     """The table of integers for a ratio."""
-    return table_sum(scaled(table, ratio[1]), scaled(height, ratio[0]))
+    top, bottom = ratio
+    return tuple([
+        tuple([bottom * number + top * other for number, other in zip(line, further)])
+        for line, further in zip(table, height)
+    ])
 
 
 def is_positive_at(table, height, ratio):
     """Whether the table is positive at a ratio."""
-    return has_positive_minors(raised(table, height, ratio))
+    return is_positive_table(raised(table, height, ratio))
 
 
 def first_powers(table, height):
@@ -66,24 +71,10 @@ def ratio_beyond(table, height):
     return low
 
 
-def sign_values(table, height):
-    """A pair of the values of both tables for each row of -1, 0 and 1, or its opposite."""
-    found = [((), 0, 0)]
-    for place, line in enumerate(table):
-        other = height[place]
-        found = [
-            (signs + (sign,), value + sign * (sign * line[place] + mixed), lift + sign * (sign * other[place] + pulled))
-            for signs, value, lift in found
-            for mixed, pulled in [(2 * dot(line, signs), 2 * dot(other, signs))]
-            for sign in ((0, 1) if place == 0 else (-1, 0, 1))
-        ]
-    return [(value, lift) for signs, value, lift in found]
-
-
 def short_ratio(table, height):
     """The least of the ratios that the rows of -1, 0 and 1 tell, or None; the table is reduced."""
-    least, best = table[0][0], None
-    for value, lift in sign_values(table, height):
+    least, size, best = table[0][0], len(table), None
+    for value, lift in zip(sign_values(table, size), sign_values(height, size)):
         if lift < 0 and (best is None or (value - least) * best[1] < best[0] * -lift):
             best = (value - least, -lift)
     return best
@@ -100,42 +91,57 @@ def first_ratio(table, height):
     return ratio_beyond(table, height)
 
 
-def ratio_of_reduced(table, height):
-    """The greatest t of a table that rises for a reduced one [8.2].
+class Rise:
+    """The rise of a reduced table along one that rises for it [8.2].
 
-    At a greater ratio a row with too little a value tells a lesser one, at which it has
-    the wanted value. That ends, as the rows with such values are finitely many.
+    `ratio` is the greatest t, `whole` the raised table at it, and `lattice` that table
+    reduced, with the basis.
     """
-    ratio = first_ratio(table, height)
-    while True:
-        # The first row of the basis has the least value.
-        lattice, basis = reduced_lattice(raised(table, height, ratio))
-        if lattice[0][0] == table[0][0] * ratio[1]:
-            return ratio
-        row = basis[0]
-        ratio = ratio_of(value_at(table, row) - table[0][0], -value_at(height, row))
+
+    def __init__(self, table, height):
+        self.ratio = first_ratio(table, height)
+        self.whole = raised(table, height, self.ratio)
+        self.lattice, self.basis = reduced_lattice(self.whole)
+        # At a greater ratio a row with too little a value tells a lesser one, at which it has the
+        # wanted value. That ends, as the rows with such values are finitely many.
+        while self.lattice[0][0] != table[0][0] * self.ratio[1]:
+            row = self.basis[0]
+            self.ratio = ratio_of(value_at(table, row) - table[0][0], -value_at(height, row))
+            self.whole = raised(table, height, self.ratio)
+            self.lattice, self.basis = reduced_lattice(self.whole)
 
 
-def greatest_ratio(table, height):
-    """The greatest t of a table that rises, reckoned in letters in which the first table is reduced."""
-    lattice, basis = reduced_lattice(table)
-    return ratio_of_reduced(lattice, led_by(height, turned(basis)))
+def rows_lifted(rise, height, basis):
+    """The ascending list of the least rows that a rise brings about, led by the rows of a basis.
+
+    Those are the least rows of the raised table at which the height is below 0 [8.3].
+    """
+    inner, outer = turned(rise.basis), turned(basis)
+    rows = [image(inner, row) for row in least_of_reduced(rise.lattice)]
+    return sorted([made_normal(image(outer, row)) for row in rows if value_at(height, row) < 0])
+
+
+def without_divisor(table):
+    """The table without a common divisor."""
+    divisor = divisor_of(entries_of(table))
+    return table if divisor == 1 else divided(table, divisor)
 
 
 def raised_fully(table, height, ratio):
     """The table at the greatest t, without a common divisor."""
-    made = raised(table, height, ratio)
-    return divided(made, divisor_of(entries_of(made)))
+    return without_divisor(raised(table, height, ratio))
 
 
 def rises(table, height):
-    """Whether a blank table rises [8.1]."""
+    """Whether a table rises for a reduced one [8.1]."""
+    if not any(entries_of(height)) or any([value_at(height, row) != 0 for row in least_of_reduced(table)]):
+        return False
     return made_together(height, adjugate(table)) <= 0
 
 
-def turned_up(table, height):
-    """The blank table, or its opposite if it does not rise."""
-    return height if rises(table, height) else scaled(height, -1)
+def turned_up(height, back):
+    """The blank table, or its opposite if it does not rise; the adjoint is told."""
+    return height if made_together(height, back) <= 0 else opposite_table(height)
 
 
 def chain_tables(table):
@@ -145,14 +151,13 @@ def chain_tables(table):
     so the blank tables, have little numbers. The last blank table moves mostly the last
     letters, which brings great and little numbers of the diagonal together.
     """
-    made, unit = [table], unit_lines(len(table))
-    back = unit
+    made, back = [table], unit_lines(len(table))
+    lattice, basis = reduced_lattice(table)
     while True:
-        table, basis = reduced_lattice(table)
-        base = zero_tables(least_rows_of(table, unit))
-        if not base:
+        rows = least_of_reduced(lattice)
+        if len(rows) >= count_of_uppers(len(table)):
             return made
         back = multiplied(undone(turned(basis)), back)
-        height = turned_up(table, base[-1])
-        table = raised_fully(table, height, ratio_of_reduced(table, height))
-        made.append(led_by(table, back))
+        rise = Rise(lattice, turned_up(last_zero_table(rows), adjugate(lattice)))
+        made.append(led_by(without_divisor(rise.whole), back))
+        lattice, basis = without_divisor(rise.lattice), rise.basis

@@ -2,12 +2,12 @@
 
 from ballgrids.base.kinds import is_long_row
 from ballgrids.base.numbers import is_whole
-from ballgrids.cone.faces import are_faces_alike
+from ballgrids.cone.faces import are_faces_alike, face_at
 from ballgrids.cone.needs import need_copy
 from ballgrids.cone.told import FIRST, Copy, copy_with
-from ballgrids.cone.walking import way_to
-from ballgrids.cone.walls import (
-    copy_behind, height_above, wall_tables_of, told_weights, wall_between, walls_of, weights_in)
+from ballgrids.cone.walking import place_of, way_to
+from ballgrids.cone.walls import copy_behind, told_weights, wall_between, walls_below, weights_in
+from ballgrids.cone.weighing import height_above, wall_lowest
 from ballgrids.errors import InvalidOperation
 from ballgrids.form.algebra import made_together, table_difference
 from ballgrids.form.needs import need_form, need_forms
@@ -16,9 +16,8 @@ from ballgrids.form.needs import need_form, need_forms
 def address(form):
     """Any address of a form: a copy, a scale and level weights."""
     need_form(form)
-    name, matrix = way_to(form.table)[-1]
-    copy = copy_with(name, matrix)
-    return (copy,) + told_weights(copy, form.table)
+    name, matrix, scale, weights = place_of(form.table)
+    return (copy_with(name, matrix), scale, weights)
 
 
 def is_address(form, value):
@@ -36,20 +35,14 @@ def is_address(form, value):
 
 def face_of(form):
     """The triple of the face rows, ascending, the scale, and the weights of these rows."""
-    return face_along(address(form))
-
-
-def face_along(found):
-    """The triple of `face_of` that an address tells."""
-    copy, scale, weights = found
-    face = sorted([(ray, weight) for ray, weight in zip(copy.rays, weights) if weight > 0])
-    return (tuple([ray for ray, weight in face]), scale, tuple([weight for ray, weight in face]))
+    need_form(form)
+    return face_at(form.table)
 
 
 def walk(form):
     """Any walk to a copy in whose cone the table of the form lies."""
     need_form(form)
-    return tuple([copy_with(name, matrix) for name, matrix in way_to(form.table)])
+    return tuple([copy_with(name, matrix) for name, matrix in way_to(form.table)[0]])
 
 
 def is_going(form, ahead, copy):
@@ -81,12 +74,13 @@ def copies_beside(form, copy):
     """The copies behind those walls of a copy on which the table of the form lies."""
     need_form(form)
     need_copy(copy)
-    if copy.size != form.size or min(told_weights(copy, form.table)[1]) < 0:
-        raise InvalidOperation("the table must lie in the cone of the copy")
+    if copy.size != form.size:
+        raise InvalidOperation("the sizes of the form and of the copy must be equal")
     weights = weights_in(copy, form.table)
-    walls = [wall for wall in walls_of(copy.name) if height_above(weights, wall) == 0]
-    tables = wall_tables_of(copy, walls)
-    return tuple([copy_behind(copy, wall) for table, wall in sorted(list(zip(tables, walls)))])
+    if height_above(weights, wall_lowest(copy.name, weights)) < 0:
+        raise InvalidOperation("the table must lie in the cone of the copy")
+    found = walls_below(copy.name, copy.matrix, weights, 1)
+    return tuple([copy_behind(copy, wall) for table, wall in found])
 
 
 def are_alike_by_faces(one, other):

@@ -3,7 +3,8 @@
 from ballgrids.base.numbers import are_integers
 from ballgrids.cone.needs import need_copies, need_copy
 from ballgrids.cone.walls import (
-    copy_behind, height_above, wall_tables_of, told_weights, wall_between, wall_with, walls_of, weights_in)
+    copy_behind, told_weights, wall_between, wall_tables_of, wall_with, walls_below, walls_of, weights_in)
+from ballgrids.cone.weighing import height_above, wall_lowest
 from ballgrids.errors import InvalidOperation
 from ballgrids.form.algebra import squares_sum
 from ballgrids.form.matrices import need_table
@@ -22,7 +23,7 @@ def wall_needed(copy, table):
 def wall_tables(copy):
     """The ascending tuple of all wall tables."""
     need_copy(copy)
-    return tuple(sorted(wall_tables_of(copy, walls_of(copy.name))))
+    return tuple(sorted(wall_tables_of(copy.name, copy.matrix, walls_of(copy.name))))
 
 
 def wall_rows(copy, table):
@@ -59,13 +60,15 @@ def weighted(copy, weights):
 
 def is_in_cone(copy, table):
     """Whether a table lies in the cone of a copy."""
-    return min(level_weights(copy, table)[1]) >= 0
+    need_copy(copy)
+    need_table(copy.size, table)
+    weights = weights_in(copy, table)
+    return height_above(weights, wall_lowest(copy.name, weights)) >= 0
 
 
 def crossed(copy, table):
     """The ascending tuple of the wall tables that make less than 0 together with a table."""
     need_copy(copy)
     need_table(copy.size, table)
-    weights = weights_in(copy, table)
-    walls = [wall for wall in walls_of(copy.name) if height_above(weights, wall) < 0]
-    return tuple(sorted(wall_tables_of(copy, walls)))
+    found = walls_below(copy.name, copy.matrix, weights_in(copy, table), 0)
+    return tuple([told for told, wall in found])

@@ -1,11 +1,28 @@
-"""Matrices that lead the face rows of one form to those of another one [11.4]; nothing is checked here.
+"""Face rows, and matrices that lead those of one form to those of another one [11.4]; nothing is checked here.
 
 A face is kept as the pairs of its rows and their weights.
 """
 
 from ballgrids.base.echelons import lead_steps
 from ballgrids.base.lines import adjugate, determinant_of, multiplied, turned
+from ballgrids.cone.told import RAYS
+from ballgrids.cone.walking import place_of
 from ballgrids.form.algebra import divided, image, made_normal, pairing_of, squares_sum
+
+
+def face_along(name, matrix, weights):
+    """The pair of the rays of a copy with weights above 0, ascending, and of these weights."""
+    face = sorted([
+        (made_normal(image(matrix, ray)), weight) for ray, weight in zip(RAYS[name], weights) if weight > 0
+    ])
+    return tuple([ray for ray, weight in face]), tuple([weight for ray, weight in face])
+
+
+def face_at(table):
+    """The triple of the face rows of a positive table, ascending, the scale, and the weights of these rows [11.2]."""
+    name, matrix, scale, weights = place_of(table)
+    rows, told = face_along(name, matrix, weights)
+    return (rows, scale, told)
 
 
 def independent_pairs(face):

@@ -2,38 +2,43 @@
 
 from ballgrids.base.lines import multiplied, turned
 from ballgrids.cone.told import FIRST
-from ballgrids.cone.walls import height_above, some_weights, step_over, walls_of
+from ballgrids.cone.walls import step_over
+from ballgrids.cone.weighing import height_above, levelled, wall_lowest, some_weights
 from ballgrids.form.algebra import moved_by, undone
 from ballgrids.short.reducing import reduced_lattice
 
 
-def wall_below(name, weights):
-    """The wall whose table makes least together with the table that has these weights, if that is below 0."""
-    height, wall = min([(height_above(weights, wall), wall) for wall in walls_of(name)])
-    return wall if height < 0 else None
-
-
 def way_from(name, matrix, told):
-    """The pairs of a name and a matrix of the copies on a way from a copy to a cone in which a table lies.
+    """The way from a copy to a cone in which a table lies, always over the wall whose table makes least.
 
-    The table is always told in the letters of the copy that is reached.
+    It is a pair of the copies, each one told by its name and matrix, and of weights that
+    tell the table along the rays of the last one. The table is always told in the letters
+    of the copy that is reached.
     """
-    found = [(name, matrix)]
-    while True:
-        wall = wall_below(name, some_weights(name, told))
-        if wall is None:
-            return found
+    found, weights = [(name, matrix)], some_weights(name, told)
+    wall = wall_lowest(name, weights)
+    while height_above(weights, wall) < 0:
         name, step = step_over(name, wall)
         told, matrix = moved_by(told, undone(step)), multiplied(matrix, step)
         found.append((name, matrix))
+        weights = some_weights(name, told)
+        wall = wall_lowest(name, weights)
+    return found, weights
 
 
 def way_to(table):
-    """The pairs of a name and a matrix of the copies on a way to a cone in which the table lies.
+    """A way, as of `way_from`, to a cone in which the table lies.
 
-    The way begins with the first told form in letters in which the table is reduced: so
-    it is short.
+    It begins with the first told form in letters in which the table is reduced: so it is
+    short.
     """
     reduced, basis = reduced_lattice(table)
     # Of a table Q led by M the rays belong to those of Q, led by the inverse of M turned around.
     return way_from(FIRST[len(table)], turned(undone(turned(basis))), reduced)
+
+
+def place_of(table):
+    """The name and the matrix of a copy in whose cone a table lies, the scale, and the level weights [11.1]."""
+    copies, weights = way_to(table)
+    name, matrix = copies[-1]
+    return (name, matrix) + levelled(name, weights)

@@ -1,16 +1,17 @@
-"""Weights along the rays of told forms, and the walls of their cones; nothing is checked here.
+"""Walls of the cones of copies; nothing is checked here.
 
 A wall is told by the tuple of the indices of the rays that it leaves out: one ray of
 `A2`, `A3` and `A4`, and one of each frame of `D4`.
 """
 
-from ballgrids.base.lines import dot, multiplied
+from ballgrids.base.lines import multiplied
 from ballgrids.cone.told import RAYS, TABLES, copy_with
 from ballgrids.cone.ways import WAYS
-from ballgrids.form.algebra import entries_of, led_by, moved_by, sum_of_tables, table_difference, undone, value_at
+from ballgrids.cone.weighing import FRAME_PLACES, height_above, levelled, some_weights
+from ballgrids.form.algebra import led_by, moved_by, table_difference, table_sum, undone, value_at
 
-# For each ray the table that makes, together with a table, twice its weight along the ray.
-# For `D4` these are the weights that are 0 along (0, 1, -1, -1) and (1, 0, -1, -1).
+# For each ray the table that makes, together with a table, twice its weight along the ray that
+# `some_weights` tells. The wall table is the sum of those of the rays that the wall leaves out.
 WEIGHT_TABLES = {
     "A2": (
         ((0, 1), (1, 2)), ((0, -1), (-1, 0)), ((2, 1), (1, 0)),
@@ -47,28 +48,6 @@ WEIGHT_TABLES = {
         ((0, 0, 0, 0), (0, 0, 0, 0), (0, 0, 0, 1), (0, 0, 1, 0)),
     ),
 }
-# The indices of the rays of each frame of `D4`.
-FRAME_PLACES = ((0, 1, 6, 11), (2, 5, 8, 9), (3, 4, 7, 10))
-
-
-def some_weights(name, table):
-    """Integers along the rays of a told form by which a table is told."""
-    entries = entries_of(table)
-    return tuple([dot(entries_of(told), entries) // 2 for told in WEIGHT_TABLES[name]])
-
-
-def levelled(name, weights):
-    """The pair of a scale and of the level weights, multiplied by it, that tell the same table [0.16]."""
-    if name != "D4":
-        return (1, weights)
-    leasts = [min([weights[place] for place in frame]) for frame in FRAME_PLACES]
-    total = sum(leasts)
-    scale = 1 if total % 3 == 0 else 3
-    made = list(weights)
-    for frame, least in zip(FRAME_PLACES, leasts):
-        for place in frame:
-            made[place] = scale * (weights[place] - least) + scale * total // 3
-    return (scale, tuple(made))
 
 
 def walls_of(name):
@@ -79,18 +58,23 @@ def walls_of(name):
     return [(first, second, third) for first in one for second in two for third in three]
 
 
-def height_above(weights, wall):
-    """Half of what the wall table makes together with the table that has these weights."""
-    return sum([weights[place] for place in wall])
-
-
-def wall_tables_of(copy, walls):
+def wall_tables_of(name, matrix, walls):
     """The wall tables of some walls of a copy, in their order."""
-    back = undone(copy.matrix)
-    told = WEIGHT_TABLES[copy.name]
+    back, told = undone(matrix), WEIGHT_TABLES[name]
     places = {place: True for wall in walls for place in wall}
     led = {place: led_by(told[place], back) for place in places}
-    return [sum_of_tables([led[place] for place in wall]) for wall in walls]
+    if name != "D4":
+        return [led[wall[0]] for wall in walls]
+    return [table_sum(table_sum(led[one], led[two]), led[three]) for one, two, three in walls]
+
+
+def walls_below(name, matrix, weights, bound):
+    """The ascending list of pairs of a wall table and its wall, for the walls above which a table is not so high.
+
+    The weights tell the table along the rays of the copy.
+    """
+    walls = [wall for wall in walls_of(name) if height_above(weights, wall) < bound]
+    return sorted(list(zip(wall_tables_of(name, matrix, walls), walls)))
 
 
 def weights_in(copy, table):
@@ -119,10 +103,14 @@ def wall_left_out(name, rays, table, height):
     At all other rays the table must be 0. The values at the rays tell a table. So it is
     the wall table, or a multiple of it.
     """
-    values = [value_at(table, ray) for ray in rays]
-    if any([value not in (0, height) for value in values]):
-        return None
-    return wall_without(name, tuple([place for place, value in enumerate(values) if value == height]))
+    places = []
+    for place, ray in enumerate(rays):
+        value = value_at(table, ray)
+        if value == height:
+            places.append(place)
+        elif value != 0:
+            return None
+    return wall_without(name, tuple(places))
 
 
 def wall_with(copy, table):
@@ -149,7 +137,10 @@ def wall_before(name, other, matrix):
 
 def step_over(name, wall):
     """The pair of the name and of a matrix of the copy behind a wall of a told form."""
-    return WAYS[name][walls_of(name).index(wall)]
+    if name != "D4":
+        return WAYS[name][wall[0]]
+    one, two, three = [frame.index(place) for frame, place in zip(FRAME_PLACES, wall)]
+    return WAYS[name][16 * one + 4 * two + three]
 
 
 def copy_behind(copy, wall):

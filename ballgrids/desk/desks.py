@@ -4,11 +4,11 @@ from ballgrids.base.lines import adjugate, determinant_of
 from ballgrids.base.numbers import divisor_of, is_integer
 from ballgrids.desk.promises import fits_promise, need_promise, paper_by
 from ballgrids.errors import InvalidNumber, InvalidOperation, NothingToUndo, Refused, TooMany, UnknownName
-from ballgrids.form.algebra import divided, entries_of, led_by, moved_by, scaled, table_sum
-from ballgrids.form.forms import form_with, has_positive_minors
+from ballgrids.form.algebra import divided, entries_of, is_positive_table, led_by, moved_by, scaled, table_sum
+from ballgrids.form.forms import form_with
 from ballgrids.form.matrices import fits_matrix, fits_square, fits_table
 from ballgrids.form.needs import need_form, need_number
-from ballgrids.short.search import shortest
+from ballgrids.short.least import shortest
 
 MAX_PROMISES = 8
 MAX_DEEDS = 20
@@ -60,7 +60,7 @@ def table_after(table, deed):
 def form_after(form, deed, index):
     """The form that a deed makes of a form; raises the error, with an index, if it fails."""
     table = table_after(form.table, deed)
-    if not has_positive_minors(table):
+    if not is_positive_table(table):
         raise Refused(("deed", index, "flat"))
     if not all([is_integer(entry) for entry in entries_of(table)]):
         raise Refused(("deed", index, "great"))

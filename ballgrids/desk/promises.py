@@ -8,7 +8,7 @@ from ballgrids.errors import InvalidPromise
 from ballgrids.form.algebra import value_at
 from ballgrids.form.matrices import need_size
 from ballgrids.form.needs import need_form
-from ballgrids.short.search import shortest
+from ballgrids.short.least import shortest
 from ballgrids.span.spans import is_blank
 from ballgrids.span.uppers import count_of_uppers, zero_tables
 

@@ -1,6 +1,6 @@
 """Choosing rays of a told form that are the rows of a face [14.1]; nothing is checked here."""
 
-from ballgrids.cone.walls import FRAME_PLACES
+from ballgrids.cone.weighing import FRAME_PLACES
 
 # For each told form the greatest sets of rays, by their indices, of which no n are independent.
 FLATS = {

@@ -3,13 +3,12 @@
 from ballgrids.alike.fitting import matrices_of_tables
 from ballgrids.base.kinds import is_long_matrix
 from ballgrids.base.lines import determinant_of, turned
-from ballgrids.cone.addresses import face_of
+from ballgrids.cone.faces import face_at
 from ballgrids.cone.needs import need_copy
 from ballgrids.errors import InvalidRows
 from ballgrids.face.choosing import face_choices
 from ballgrids.face.classes import dimension_with, is_mark
 from ballgrids.form.algebra import image, is_normal, made_normal, squares_sum
-from ballgrids.form.forms import form_with
 from ballgrids.form.matrices import fits_row, need_size
 from ballgrids.form.needs import need_number
 
@@ -49,7 +48,7 @@ def known_mark(size, value):
         return None
     table = table_with(value)
     mark = mark_with(value, table)
-    if not is_mark(size, mark) or face_of(form_with(table))[0] != value:
+    if not is_mark(size, mark) or face_at(table)[0] != value:
         return None
     return mark
 

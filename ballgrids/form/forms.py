@@ -6,7 +6,7 @@ from ballgrids.base.lines import adjugate, determinant_of, first_other_than_0, l
 from ballgrids.base.numbers import divisor_of, is_integer, is_whole
 from ballgrids.errors import InvalidForm, InvalidNumber, InvalidOperation
 from ballgrids.form.algebra import (
-    divided, entries_of, image, led_by, minors_of, pairing_of, scaled, table_sum, value_at)
+    divided, entries_of, image, is_positive_table, led_by, minors_of, pairing_of, scaled, table_sum, value_at)
 from ballgrids.form.matrices import fits_table, need_matrix, need_row, need_size, need_table, size_of
 
 SMALLEST = ((1, 0), (0, 1))
@@ -18,7 +18,7 @@ class Form:
     def __init__(self, table):
         if not fits_table(size_of(table), table):
             raise InvalidForm("a form must have a table of the size 2, 3 or 4")
-        if not has_positive_minors(table):
+        if not is_positive_table(table):
             raise InvalidForm("the table of a form must be positive")
         self._table = table
 
@@ -116,15 +116,10 @@ def diagonal_table(numbers):
     return tuple([tuple([numbers[row] if row == column else 0 for column in places]) for row in places])
 
 
-def has_positive_minors(table):
-    """Whether a table of integers of any length is positive [2.2]."""
-    return all([number > 0 for number in minors_of(table)])
-
-
 def is_positive(size, value):
     """Whether the value is a positive table of the size."""
     need_size(size)
-    return fits_table(size, value) and has_positive_minors(value)
+    return fits_table(size, value) and is_positive_table(value)
 
 
 def barrier(size, table):

@@ -2,10 +2,13 @@
 
 from ballgrids.base.kinds import is_long_table
 from ballgrids.base.numbers import is_whole, ratio_of
-from ballgrids.cone.addresses import address, face_along, face_of
+from ballgrids.cone.faces import face_along
 from ballgrids.cone.needs import need_copy
+from ballgrids.cone.told import TABLES
+from ballgrids.cone.walking import place_of
 from ballgrids.cone.walls import told_weights
 from ballgrids.errors import InvalidOperation
+from ballgrids.form.algebra import led_by, undone
 from ballgrids.form.matrices import need_size, need_table
 from ballgrids.form.needs import need_form, need_number
 from ballgrids.price.writings import is_dear, price_with, sum_with, writes
@@ -52,15 +55,17 @@ def sum_of_writing(form, writing):
 
 def least_price(form):
     """The least price, a ratio: the sum of the writing by the face rows [0.20]."""
-    rows, scale, weights = face_of(form)
+    need_form(form)
+    _, _, scale, weights = place_of(form.table)
     return sum_with(weights, scale)
 
 
 def price_paper(form):
     """Any tuple of a price table, its bottom, and the parts of a writing, whose price and sum are equal."""
-    found = address(form)
-    rows, scale, weights = face_along(found)
-    return (found[0].form.table, 2, rows, weights, scale)
+    need_form(form)
+    name, matrix, scale, weights = place_of(form.table)
+    rows, told = face_along(name, matrix, weights)
+    return (led_by(TABLES[name], undone(matrix)), 2, rows, told, scale)
 
 
 def is_price_paper(form, value):

@@ -2,8 +2,7 @@
 
 from ballgrids.base.kinds import is_long_row
 from ballgrids.base.numbers import is_whole, ratio_of
-from ballgrids.form.algebra import is_normal, made_together, scaled, squares_sum
-from ballgrids.form.forms import has_positive_minors
+from ballgrids.form.algebra import is_normal, is_positive_table, made_together, scaled, squares_sum
 from ballgrids.short.reducing import reduced_lattice
 
 
@@ -27,7 +26,7 @@ def writes(table, rows, weights, scale):
 
 def is_dear(table, bottom):
     """Whether a table is positive, and its least value, the first one of a reduced table, is at least the bottom."""
-    return has_positive_minors(table) and reduced_lattice(table)[0][0][0] >= bottom
+    return is_positive_table(table) and reduced_lattice(table)[0][0][0] >= bottom
 
 
 def price_with(table, told, bottom):

@@ -4,31 +4,45 @@ A lattice is kept as its table and the rows of its basis, told in the letters of
 table that is to be reduced.
 """
 
-from ballgrids.base.lines import adjugate, determinant_of, dot, leading_block, unit_lines
+from ballgrids.base.lines import adjugate, dot, leading_block, unit_lines
 from ballgrids.form.algebra import image
+from ballgrids.short.signs import SIGN_ROWS, doubled_pairings, sign_values, with_letter
 
 
-def nearest_signs(table, index):
-    """The pair of the least value at a row of [3.1] for the index, and its entries ahead."""
-    found = [(table[index][index], ())]
-    for place in range(index):
-        line = table[place]
-        # What an entry adds: its own square, and its pairings with the ones ahead and with the last one.
-        found = [
-            (value + sign * (sign * line[place] + 2 * (line[index] + dot(line, signs))), signs + (sign,))
-            for value, signs in found for sign in (-1, 0, 1)
-        ]
-    return min(found)
+def first_unreduced(table):
+    """The first index at which a positive table is not reduced [3.1], or its size."""
+    values = [table[0][0]]
+    for index in range(1, len(table)):
+        own = table[index][index]
+        if own < table[index - 1][index - 1]:
+            return index
+        pairings = doubled_pairings(table, index)
+        # No row of signs of the letters ahead makes the value less, be it added or taken away.
+        if any([told > value or -told > value for value, told in zip(values, pairings)]):
+            return index
+        if index + 1 < len(table):
+            values = with_letter(values, pairings, own)
+    return len(table)
 
 
 def is_reduced_table(table):
-    """Whether a positive table is reduced [3.1]."""
-    for index in range(1, len(table)):
-        if table[index - 1][index - 1] > table[index][index]:
-            return False
-        if nearest_signs(table, index)[0] < table[index][index]:
-            return False
-    return True
+    """Whether a positive table is reduced."""
+    return first_unreduced(table) == len(table)
+
+
+def nearest_signs(table, index, values):
+    """The row of -1, 0 and 1 of the letters ahead that, added to the row with the index, makes its value least.
+
+    It is None if the value does not become less. The values at such rows ahead are told.
+    """
+    pairings = doubled_pairings(table, index)
+    changes = [value - abs(told) for value, told in zip(values, pairings)]
+    least = min(changes)
+    if least >= 0:
+        return None
+    at = changes.index(least)
+    signs = SIGN_ROWS[len(table)][at][:index]
+    return signs if pairings[at] < 0 else tuple([-sign for sign in signs])
 
 
 def with_entry(line, index, number):
@@ -38,13 +52,14 @@ def with_entry(line, index, number):
 
 def shifted(table, basis, index, factors):
     """The table and the basis after multiples of the rows ahead are added to the row with the index."""
-    multipliers = factors + (1,)
-    pairings = [dot(multipliers, [line[place] for line in table[:index + 1]]) for place in range(len(table))]
-    own = dot(multipliers, pairings[:index + 1])
-    made = [with_entry(line, index, pairings[place]) for place, line in enumerate(table)]
-    made[index] = with_entry(tuple(pairings), index, own)
-    row = [dot(multipliers, [told[place] for told in basis[:index + 1]]) for place in range(len(table))]
-    return tuple(made), basis[:index] + (tuple(row),) + basis[index + 1:]
+    line, row = table[index], basis[index]
+    for factor, other, told in zip(factors, table, basis):
+        if factor != 0:
+            line = tuple([number + factor * further for number, further in zip(line, other)])
+            row = tuple([number + factor * further for number, further in zip(row, told)])
+    made = [with_entry(ahead, index, number) for ahead, number in zip(table, line)]
+    made[index] = with_entry(line, index, line[index] + dot(factors, line))
+    return tuple(made), with_entry(basis, index, row)
 
 
 def brought(things, index, place):
@@ -58,25 +73,26 @@ def rounded_factors(table, index):
     Its fractions along the rows ahead are rounded, so that at most halves are left.
     """
     block = leading_block(table, index)
-    divisor = determinant_of(block)
-    tops = image(adjugate(block), table[index][:index])
-    return tuple([-((2 * top + divisor) // (2 * divisor)) for top in tops])
+    back = adjugate(block)
+    divisor = dot(block[0], back[0])
+    return tuple([-((2 * top + divisor) // (2 * divisor)) for top in image(back, table[index][:index])])
 
 
 def settled(table, basis, index):
     """The table and the basis after the row with the index is brought near to 0.
 
-    The finer search is left out while rounding alone makes the row less than the one ahead,
-    as the rows ahead then change anyway.
+    Where one row of signs does not do, multiples of the rows ahead can be needed. All of that
+    is left out once the row is less than the one ahead, as the rows ahead then change anyway.
     """
-    factors = rounded_factors(table, index)
-    if any([factor != 0 for factor in factors]):
-        table, basis = shifted(table, basis, index, factors)
-    while table[index][index] >= table[index - 1][index - 1]:
-        value, signs = nearest_signs(table, index)
-        if value >= table[index][index]:
+    values = sign_values(table, index)
+    signs, steps = nearest_signs(table, index, values), 0
+    while signs is not None:
+        factors = rounded_factors(table, index) if steps == 1 else signs
+        table, basis = shifted(table, basis, index, factors if any(factors) else signs)
+        if table[index][index] < table[index - 1][index - 1]:
             break
-        table, basis = shifted(table, basis, index, signs)
+        signs = nearest_signs(table, index, values)
+        steps += 1
     return table, basis
 
 
@@ -95,8 +111,7 @@ def reduced_lattice(table):
     is put among them, and the work goes on from there: this ends, as the first row
     that changes gets a lesser value each time.
     """
-    basis = unit_lines(len(table))
-    index = 1
+    basis, index = unit_lines(len(table)), first_unreduced(table)
     while index < len(table):
         table, basis = settled(table, basis, index)
         if table[index][index] >= table[index - 1][index - 1]:

@@ -5,8 +5,9 @@ from ballgrids.errors import TooMany
 from ballgrids.form.algebra import is_normal, value_at
 from ballgrids.form.matrices import fits_row
 from ballgrids.form.needs import need_form, need_forms, need_number
+from ballgrids.short.least import shortest
 from ballgrids.short.reducing import reduced_lattice
-from ballgrids.short.search import Search, led_lines, lines_at, shortest, valued_rows
+from ballgrids.short.search import Search, led_lines, lines_at, valued_rows
 
 MOST_ROWS = 2000
 MOST_VALUE = 200

@@ -7,7 +7,6 @@ tail. Of a row and its opposite just one is on a line, and the row of zeros is o
 from math import isqrt
 
 from ballgrids.base.lines import cleared_line, dot, turned
-from ballgrids.short.reducing import reduced_lattice
 
 
 def shadows_of(table):
@@ -131,14 +130,3 @@ def valued_rows(basis, lines):
     """The ascending list of pairs of a value and a normal row, for all rows of some lines."""
     spread = spread_of(basis)
     return sorted([pair for line in lines for pair in zip(line.worths(), led_line(spread, line))])
-
-
-def least_rows_of(lattice, basis):
-    """The ascending list of the least rows of a reduced table, led by the rows of a basis."""
-    return sorted(led_lines(basis, lines_at(Search(lattice, lattice[0][0]))))
-
-
-def shortest(table):
-    """The pair of the least value and the ascending list of the least rows."""
-    lattice, basis = reduced_lattice(table)
-    return lattice[0][0], least_rows_of(lattice, basis)

@@ -1,14 +1,14 @@
 """What the least rows of a form tell about it [7.1] to [7.3]."""
 
-from ballgrids.alike.fitting import matrices_of_tables
 from ballgrids.base.kinds import is_long_table
-from ballgrids.base.numbers import are_integers, is_whole
+from ballgrids.base.lines import dot, turned
+from ballgrids.base.numbers import are_integers, divisor_of, is_whole
 from ballgrids.cone.told import NAMES, RAYS, TABLES, Copy, copy_with
 from ballgrids.errors import InvalidOperation, InvalidRows
-from ballgrids.form.algebra import divided, entries_of, scaled, value_at
+from ballgrids.form.algebra import divided, entries_of, image, scaled, value_at
 from ballgrids.form.matrices import fits_row, need_size
 from ballgrids.form.needs import need_form
-from ballgrids.short.search import shortest
+from ballgrids.short.least import shortest
 from ballgrids.span.uppers import count_of_uppers, rank_of_squares_of, table_with_values, zero_tables
 
 MAX_SPANNED = 40
@@ -48,9 +48,14 @@ def table_by_values(size, rows, values):
 
 
 def rank_of_squares(form):
-    """The rank of the least rows."""
+    """The rank of the least rows.
+
+    They are rays of a copy, to whose form a chain leads. The squares of its rays are
+    independent, but for D4, and there as long as a ray of each frame is left out. With a
+    whole frame all rays of D4 are least rows, as the squares of each frame add up to the same.
+    """
     need_form(form)
-    return rank_of_squares_of(shortest(form.table)[1])
+    return min(len(shortest(form.table)[1]), count_of_uppers(form.size))
 
 
 def is_perfect(form):
@@ -61,26 +66,45 @@ def is_perfect(form):
 def blanks(form):
     """The base of the tables that are 0 at the least rows."""
     need_form(form)
-    return zero_tables(shortest(form.table)[1])
+    rows = shortest(form.table)[1]
+    return zero_tables(rows) if len(rows) < count_of_uppers(form.size) else ()
 
 
 def is_blank(form, value):
     """Whether the value is a table that is blank for the form, with integers of any length."""
     need_form(form)
-    if not is_long_table(form.size, value) or all([entry == 0 for entry in entries_of(value)]):
+    if not is_long_table(form.size, value) or not any(entries_of(value)):
         return False
     return all([value_at(value, row) == 0 for row in shortest(form.table)[1]])
 
 
+def columns_with(table, wanted, rows, columns):
+    """Some rows with the wanted pairings by a table, if there are any that begin with these columns, or None."""
+    at = len(columns)
+    if at == len(wanted):
+        return columns
+    line = wanted[at][:at]
+    for row in rows:
+        if line == tuple([dot(told, row) for told in [image(table, column) for column in columns]]):
+            found = columns_with(table, wanted, rows, columns + (row,))
+            if found is not None:
+                return found
+    return None
+
+
 def told_copy(form):
     """Any pair of a copy and a number that makes the perfect form of the form of the copy, or None."""
-    if not is_perfect(form):
+    need_form(form)
+    rows = shortest(form.table)[1]
+    if len(rows) < count_of_uppers(form.size):
         return None
-    # The number of least rows tells to which told form a perfect one is alike [7.3].
-    many = len(shortest(form.table)[1])
-    name = [told for told in NAMES if len(RAYS[told]) == many][0]
-    matrix = matrices_of_tables(divided(form.table, form.content), TABLES[name], 1)[0]
-    return (copy_with(name, matrix), form.content)
+    # The number of least rows tells to which told form a perfect one is alike [7.3]. The columns
+    # of a matrix are least rows, with the pairings that the unit rows have by the told form.
+    name = [told for told in NAMES if len(RAYS[told]) == len(rows)][0]
+    number = divisor_of(entries_of(form.table))
+    signed = rows + [tuple([-entry for entry in row]) for row in rows]
+    columns = columns_with(divided(form.table, number), TABLES[name], signed, ())
+    return (copy_with(name, turned(columns)), number)
 
 
 def is_told_copy(form, value):

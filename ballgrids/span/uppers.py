@@ -1,11 +1,6 @@
 """Tables as lines of their upper numbers [7.1]; nothing is checked here."""
 
-from ballgrids.base.echelons import kernel_of, lead_steps
-
-
-def upper_places(size):
-    """The places of the upper triangle, row by row."""
-    return [(row, column) for row in range(size) for column in range(row, size)]
+from ballgrids.base.echelons import kernel_of, last_of_kernel, lead_steps
 
 
 def count_of_uppers(size):
@@ -15,27 +10,37 @@ def count_of_uppers(size):
 
 def square_uppers(row):
     """The upper numbers of the square of a row."""
-    return tuple([row[place] * row[column] for place, column in upper_places(len(row))])
+    return tuple([first * second for at, first in enumerate(row) for second in row[at:]])
 
 
 def value_factors(row):
     """What makes the value at the row of a table's upper numbers: each one aside the diagonal counts twice."""
-    return tuple([
-        row[place] * row[column] * (1 if place == column else 2) for place, column in upper_places(len(row))
-    ])
+    if len(row) == 4:
+        a, b, c, d = row
+        x, y, z = 2 * a, 2 * b, 2 * c
+        return (a * a, x * b, x * c, x * d, b * b, y * c, y * d, c * c, z * d, d * d)
+    if len(row) == 3:
+        a, b, c = row
+        return (a * a, 2 * a * b, 2 * a * c, b * b, 2 * b * c, c * c)
+    a, b = row
+    return (a * a, 2 * a * b, b * b)
 
 
 def uppers_of(table):
     """The upper numbers of a table."""
-    return tuple([table[row][column] for row, column in upper_places(len(table))])
+    return tuple([number for at, line in enumerate(table) for number in line[at:]])
 
 
 def table_of_uppers(size, numbers):
     """The table with these upper numbers."""
-    told = dict(zip(upper_places(size), numbers))
-    return tuple([
-        tuple([told[(min(row, column), max(row, column))] for column in range(size)]) for row in range(size)
-    ])
+    if size == 4:
+        a, b, c, d, e, f, g, h, i, j = numbers
+        return ((a, b, c, d), (b, e, f, g), (c, f, h, i), (d, g, i, j))
+    if size == 3:
+        a, b, c, d, e, f = numbers
+        return ((a, b, c), (b, d, e), (c, e, f))
+    a, b, c = numbers
+    return ((a, b), (b, c))
 
 
 def rank_of_squares_of(rows):
@@ -47,6 +52,12 @@ def zero_tables(rows):
     """The base of the tables that are 0 at some rows [7.2]."""
     size = len(rows[0])
     return tuple([table_of_uppers(size, line) for line in kernel_of([value_factors(row) for row in rows])])
+
+
+def last_zero_table(rows):
+    """The last table of the base of those that are 0 at some rows, or None if there is none."""
+    line = last_of_kernel([value_factors(row) for row in rows])
+    return None if line is None else table_of_uppers(len(rows[0]), line)
 
 
 def table_with_values(rows, values):

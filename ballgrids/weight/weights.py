@@ -1,16 +1,17 @@
 """Weights of the adjoint along the least rows, and critical forms [10.1] to [10.7]."""
 
 from ballgrids.base.kinds import is_long_table
-from ballgrids.base.lines import adjugate
-from ballgrids.base.numbers import ratio_of
-from ballgrids.form.algebra import made_together, value_at
+from ballgrids.base.lines import adjugate, determinant_of
+from ballgrids.base.numbers import divisor_of, power
+from ballgrids.form.algebra import entries_of, made_together, value_at
 from ballgrids.form.forms import form_with
 from ballgrids.form.matrices import need_size
 from ballgrids.form.needs import need_form
-from ballgrids.short.search import shortest
+from ballgrids.short.least import least_of_reduced, shortest
+from ballgrids.short.reducing import reduced_lattice
 from ballgrids.span.spans import is_perfect
 from ballgrids.span.uppers import table_of_uppers
-from ballgrids.weight.adjoints import blocking_table, only_weights, opposing_table
+from ballgrids.weight.adjoints import blocking_table, opposing_table, weights_along
 
 # The upper numbers of the critical forms [10.5].
 CRITICAL = {
@@ -24,35 +25,39 @@ CRITICAL = {
         (6, 1, 3, 1, 6, 3, 3, 6, 0, 6), (2, 1, 1, 1, 2, 1, 1, 2, 1, 2), (2, 1, 1, 1, 2, 1, 1, 2, 0, 2),
     ),
 }
-# No other forms have so many least rows as the multiples of the form of a copy of D4.
-MOST_LEAST_ROWS = 12
+# Their determinants; no two of a size are equal.
+DETERMINANTS = {
+    2: (1, 3),
+    3: (1, 6, 16, 36, 4),
+    4: (1, 12, 48, 125, 9, 144, 576, 8, 108, 1728, 96, 81, 432, 5, 4),
+}
 
 
 def weights_of_adjoint(form):
     """The pair of a scale and of the weights of the adjoint along the least rows, or None."""
     need_form(form)
     least, rows = shortest(form.table)
-    if len(rows) < MOST_LEAST_ROWS:
-        return only_weights(form.table, rows)
-    # Keepers of the form lead each of these rows to each other one. So the level weights
-    # are equal, and their sum is known [10.3].
-    top, bottom = ratio_of(form.size * form.determinant, len(rows) * least)
-    return (bottom, (top,) * len(rows))
+    return weights_along(form.table, least, rows)
 
 
 def level_number(form):
-    """2 if all weights are above 0, 1 if one of them is 0, and 0 if there are none."""
-    found = weights_of_adjoint(form)
+    """2 if all weights are above 0, 1 if one of them is 0, and 0 if there are none.
+
+    The weights are the same in letters in which the form is reduced, up to their order.
+    """
+    need_form(form)
+    lattice = reduced_lattice(form.table)[0]
+    found = weights_along(lattice, lattice[0][0], least_of_reduced(lattice))
     if found is None:
         return 0
     return 1 if 0 in found[1] else 2
 
 
-def is_never_below(form, value):
-    """Whether the value is a table with integers of any length, and nowhere below 0 at the least rows."""
+def values_at_least(form, value):
+    """The values of a table with integers of any length at the least rows of a form; None for any other value."""
     if not is_long_table(form.size, value):
-        return False
-    return all([value_at(value, row) >= 0 for row in shortest(form.table)[1]])
+        return None
+    return [value_at(value, row) for row in shortest(form.table)[1]]
 
 
 def opposing(form):
@@ -64,22 +69,25 @@ def opposing(form):
 def is_opposing(form, value):
     """Whether the value is an opposing table, with integers of any length."""
     need_form(form)
-    return is_never_below(form, value) and made_together(value, adjugate(form.table)) < 0
+    values = values_at_least(form, value)
+    if values is None or min(values) < 0:
+        return False
+    return made_together(value, adjugate(form.table)) < 0
 
 
 def blocking(form):
     """Any blocking table, or None if there is none."""
-    if level_number(form) == 2:
-        return None
+    need_form(form)
     return blocking_table(form.table)
 
 
 def is_blocking(form, value):
     """Whether the value is a blocking table, with integers of any length."""
     need_form(form)
-    if not is_never_below(form, value) or made_together(value, adjugate(form.table)) > 0:
+    values = values_at_least(form, value)
+    if values is None or min(values) < 0 or max(values) == 0:
         return False
-    return any([value_at(value, row) > 0 for row in shortest(form.table)[1]])
+    return made_together(value, adjugate(form.table)) <= 0
 
 
 def is_locally_densest(form):
@@ -101,5 +109,5 @@ def critical_index(form):
     """
     if level_number(form) == 0:
         return None
-    determinants = [told.determinant for told in critical_forms(form.size)]
-    return determinants.index(form.cleared().determinant)
+    whole = determinant_of(form.table) // power(divisor_of(entries_of(form.table)), form.size)
+    return DETERMINANTS[form.size].index(whole)

@@ -15,11 +15,6 @@ MOST_ENTRY = 30
 BENDS = (((1, 0), (0, 1)), ((0, -1), (1, 1)), ((1, 1), (0, -1)))
 
 
-def told_cone(name):
-    """The copy of a told form by the matrix with 1 on the diagonal."""
-    return copy_with(name, unit_lines(len(TABLES[name])))
-
-
 def steps_beside(name, other, value):
     """Whether the value is a matrix whose copy of the other told form lies behind a wall of the first one."""
     return is_long_matrix(len(TABLES[name]), value) and wall_before(name, other, value) is not None
@@ -38,7 +33,8 @@ def each_step(name):
     """A generator of a name and a matrix of the copy behind each wall of the told cone."""
     need_name(name)
     walls = walls_of(name)
-    for _, wall in sorted(list(zip(wall_tables_of(told_cone(name), walls), walls))):
+    tables = wall_tables_of(name, unit_lines(len(TABLES[name])), walls)
+    for _, wall in sorted(list(zip(tables, walls))):
         yield step_over(name, wall)
 
 
@@ -56,7 +52,7 @@ def way_between(name, other, matrix):
     """
     rays = RAYS[other]
     middle = moved_by(squares_sum(rays, (1,) * len(rays)), matrix)
-    way = way_from(name, unit_lines(len(matrix)), middle)
+    way = way_from(name, unit_lines(len(matrix)), middle)[0]
     return way[:1] if len(way) == 1 else way[:-1] + [(other, matrix)]
 
 
