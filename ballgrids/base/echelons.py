@@ -15,10 +15,11 @@ def cleared_lines(lines, leads, index, scale):
         if at == index:
             continue
         if lead != 0:
-            line = [(ahead * number - lead * other) // scale for number, other in zip(line, pivot)]
+            found.append([(ahead * number - lead * other) // scale for number, other in zip(line, pivot)])
         elif ahead != scale:
-            line = [ahead * number // scale for number in line]
-        found.append(line)
+            found.append([ahead * number // scale for number in line])
+        else:
+            found.append(line)
     return found
 
 

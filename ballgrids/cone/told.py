@@ -146,6 +146,8 @@ def led_form(name, matrix):
 
 def copy_with(name, matrix):
     """The copy by a matrix that is known to be one, whatever the sizes of its integers are."""
+    if fits_matrix(len(matrix), matrix):
+        return Copy(name, matrix)
     copy = Copy("A2", SMALLEST)
     copy._name = name
     copy._matrix = matrix

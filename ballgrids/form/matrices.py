@@ -1,7 +1,6 @@
 """Rows, tables and matrices [0.8] to [0.10], [2.1]."""
 
-from ballgrids.base.kinds import is_long_matrix
-from ballgrids.base.lines import first_other_than_0, multiplied, turned, unit_lines
+from ballgrids.base.lines import determinant_of, first_other_than_0, multiplied, turned, unit_lines
 from ballgrids.base.numbers import are_integers, is_integer
 from ballgrids.errors import InvalidMatrix, InvalidNumber, InvalidOperation, InvalidRow, InvalidTable
 from ballgrids.form.algebra import image, led_by, made_normal, made_together, moved_by, undone, value_at
@@ -31,7 +30,7 @@ def fits_square(size, value):
     """Whether the value has as many rows of the size."""
     if size not in SIZES or not isinstance(value, tuple) or len(value) != size:
         return False
-    return all([fits_row(size, row) for row in value])
+    return all([are_integers(row, size, size) for row in value])
 
 
 def fits_table(size, value):
@@ -41,7 +40,7 @@ def fits_table(size, value):
 
 def fits_matrix(size, value):
     """Whether the value is a square of the size with the determinant 1 or -1."""
-    return fits_square(size, value) and is_long_matrix(size, value)
+    return fits_square(size, value) and determinant_of(value) in (1, -1)
 
 
 def need_row(size, row):
