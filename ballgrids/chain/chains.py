@@ -1,15 +1,16 @@
 """Rises and chains of forms [8.1] to [8.5]."""
 
 from ballgrids.base.kinds import is_long_table
-from ballgrids.base.lines import adjugate, determinant_of, turned
+from ballgrids.base.lines import adjugate, determinant_of
 from ballgrids.base.numbers import divisor_of
 from ballgrids.chain.rising import Rise, chain_tables, raised_fully, rises, rows_lifted, turned_up
 from ballgrids.errors import InvalidOperation, InvalidTable
-from ballgrids.form.algebra import entries_of, led_by, made_together
+from ballgrids.form.algebra import entries_of, made_together, moved_by
 from ballgrids.form.forms import Form, form_with
 from ballgrids.form.needs import need_form
 from ballgrids.short.least import least_rows_of, shortest
 from ballgrids.short.reducing import reduced_lattice
+from ballgrids.short.signs import sign_values
 from ballgrids.span.uppers import count_of_uppers, zero_tables
 
 
@@ -19,7 +20,7 @@ def is_rising(form, value):
     if not is_long_table(form.size, value):
         return False
     lattice, basis = reduced_lattice(form.table)
-    return rises(lattice, led_by(value, turned(basis)))
+    return rises(lattice, moved_by(value, basis))
 
 
 def rise_of(form, table):
@@ -28,10 +29,10 @@ def rise_of(form, table):
     if not is_long_table(form.size, table):
         raise InvalidTable("a table must have as many rows as the size and be symmetric")
     lattice, basis = reduced_lattice(form.table)
-    height = led_by(table, turned(basis))
+    height = moved_by(table, basis)
     if not rises(lattice, height):
         raise InvalidOperation("the table must rise for the form")
-    return (Rise(lattice, height), height, basis)
+    return (Rise(lattice, height, sign_values(lattice, form.size)), height, basis)
 
 
 def greatest_t(form, table):
@@ -84,10 +85,10 @@ def each_rise(form):
     lattice, basis = reduced_lattice(table)
     rows = least_rows_of(lattice, basis)
     if len(rows) < count_of_uppers(form.size):
-        back, columns = adjugate(table), turned(basis)
+        back, values = adjugate(table), sign_values(lattice, form.size)
         for blank in zero_tables(rows):
             height = turned_up(blank, back)
-            ratio = Rise(lattice, led_by(height, columns)).ratio
+            ratio = Rise(lattice, moved_by(height, basis), values).ratio
             yield form_with(raised_fully(table, height, ratio))
 
 

@@ -71,21 +71,21 @@ def ratio_beyond(table, height):
     return low
 
 
-def short_ratio(table, height):
+def short_ratio(table, height, values):
     """The least of the ratios that the rows of -1, 0 and 1 tell, or None; the table is reduced."""
-    least, size, best = table[0][0], len(table), None
-    for value, lift in zip(sign_values(table, size), sign_values(height, size)):
+    least, best = table[0][0], None
+    for value, lift in zip(values, sign_values(height, len(table))):
         if lift < 0 and (best is None or (value - least) * best[1] < best[0] * -lift):
             best = (value - least, -lift)
     return best
 
 
-def first_ratio(table, height):
+def first_ratio(table, height, values):
     """A ratio that is at least the greatest t, and at which the table is positive; the table is reduced.
 
     Nearly always the shortest rows tell one. Where they do not, it has to be enclosed.
     """
-    best = short_ratio(table, height)
+    best = short_ratio(table, height, values)
     if best is not None and is_positive_at(table, height, best):
         return ratio_of(best[0], best[1])
     return ratio_beyond(table, height)
@@ -95,11 +95,11 @@ class Rise:
     """The rise of a reduced table along one that rises for it [8.2].
 
     `ratio` is the greatest t, `whole` the raised table at it, and `lattice` that table
-    reduced, with the basis.
+    reduced, with the basis. The values of the first table at the rows of signs are told.
     """
 
-    def __init__(self, table, height):
-        self.ratio = first_ratio(table, height)
+    def __init__(self, table, height, values):
+        self.ratio = first_ratio(table, height, values)
         self.whole = raised(table, height, self.ratio)
         self.lattice, self.basis = reduced_lattice(self.whole)
         # At a greater ratio a row with too little a value tells a lesser one, at which it has the
@@ -158,6 +158,7 @@ def chain_tables(table):
         if len(rows) >= count_of_uppers(len(table)):
             return made
         back = multiplied(undone(turned(basis)), back)
-        rise = Rise(lattice, turned_up(last_zero_table(rows), adjugate(lattice)))
+        height = turned_up(last_zero_table(rows), adjugate(lattice))
+        rise = Rise(lattice, height, sign_values(lattice, len(lattice)))
         made.append(led_by(without_divisor(rise.whole), back))
         lattice, basis = without_divisor(rise.lattice), rise.basis

@@ -1,6 +1,6 @@
 """Reckoning with rows, tables and matrices of any length; nothing is checked here."""
 
-from ballgrids.base.lines import adjugate, determinant_of, dot, first_other_than_0, multiplied, turned
+from ballgrids.base.lines import UNITS, adjugate, determinant_of, dot, first_other_than_0, multiplied, turned
 from ballgrids.base.lines import leading_block
 
 
@@ -59,11 +59,15 @@ def is_normal(row):
 
 def led_by(table, matrix):
     """The table led by the matrix [0.10]."""
+    if matrix == UNITS[len(matrix)]:
+        return table
     return multiplied(turned(matrix), multiplied(table, matrix))
 
 
 def moved_by(table, matrix):
     """The table moved by the matrix [0.10]."""
+    if matrix == UNITS[len(matrix)]:
+        return table
     return multiplied(matrix, multiplied(table, turned(matrix)))
 
 
