@@ -22,6 +22,7 @@ def are_integers(value, least, most):
     """Whether the value is a tuple of so many integers of at most sixty digits."""
     if not isinstance(value, tuple) or not least <= len(value) <= most:
         return False
+    # `is_integer` is written out, as so many numbers are asked here.
     return all([
         isinstance(number, int) and not isinstance(number, bool) and -TOO_LONG < number < TOO_LONG for number in value
     ])

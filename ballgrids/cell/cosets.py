@@ -7,7 +7,7 @@ rows v + 2 y. Just one of a row and its opposite is looked for.
 from ballgrids.base.lines import dot, first_other_than_0, turned
 from ballgrids.form.algebra import image, made_normal, undone
 from ballgrids.short.reducing import reduced_lattice
-from ballgrids.short.search import shadows_of
+from ballgrids.short.search import levels_of
 
 
 def nearest_entry(first, mixed, parity):
@@ -57,11 +57,6 @@ class CosetSearch:
             self.least = value
             self.found = []
         self.found.append(row)
-
-
-def levels_of(table):
-    """For each letter what a search of rows needs of the shadow from this letter on."""
-    return [(scale, rest[0][0], rest[0][1:]) for scale, rest in shadows_of(table)]
 
 
 def all_remainders(size):

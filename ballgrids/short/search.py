@@ -24,6 +24,11 @@ def shadows_of(table):
     return found
 
 
+def levels_of(table):
+    """For each letter the scale of its shadow, the first number of this, and the others of its first line."""
+    return [(scale, rest[0][0], rest[0][1:]) for scale, rest in shadows_of(table)]
+
+
 class Line:
     """The rows with a tail whose first entry is from `low` to `high`.
 
@@ -53,7 +58,7 @@ class Search:
     """The lines of all rows with values from 0 to a bound; it ends where there are more than `most`."""
 
     def __init__(self, table, bound, most=None):
-        self.levels = [(scale, rest[0][0], rest[0][1:]) for scale, rest in shadows_of(table)]
+        self.levels = levels_of(table)
         self.bound = bound
         self.most = most
         self.many = 0

@@ -196,7 +196,7 @@ def distance(one, other):
         return 0
     between = multiplied(undone(one.matrix), other.matrix)
     bent = [multiplied(undone(bend), between) for bend in BENDS]
-    told = [[image(matrix, ray) for ray in RAYS["A2"]] for matrix in bent]
-    rows = [rows for rows in told if have_like_signs(rows)][0]
-    _, top, bottom = max([(abs(first + second), abs(first), abs(second)) for first, second in rows])
+    led = [[image(matrix, ray) for ray in RAYS["A2"]] for matrix in bent]
+    fitting = [rows for rows in led if have_like_signs(rows)][0]
+    _, top, bottom = max([(abs(first + second), abs(first), abs(second)) for first, second in fitting])
     return sum_of_quotients(top, bottom)
